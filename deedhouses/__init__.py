@@ -1,0 +1,1 @@
+"""Deedhouses: plans under chance, for several pays at once, exactly."""

@@ -1,0 +1,105 @@
+"""Houses, starts, and the checks of arguments that hang on the house alone."""
+
+from deedhouses.errors import InvalidHouse, InvalidNumber, InvalidStart, InvalidWeights, InvalidWorths
+from deedhouses.ratios import ONE, are_odds, dot, is_fraction, is_from_nought, is_row, is_tuple, is_within, total
+
+
+def is_house(value):
+    """Whether any value is a house."""
+    if not is_tuple(value, 3):
+        return False
+    share, pays, stands = value
+    if not is_from_nought(share) or share[0] >= share[1] or not is_within(pays, 1, 4):
+        return False
+    if not isinstance(stands, tuple) or not is_within(len(stands), 1, 8):
+        return False
+    return all([is_stand(stand, pays, len(stands)) for stand in stands])
+
+
+def is_stand(value, pays, stands):
+    """Whether any value is a stand of a house of so many pays and stands."""
+    if not isinstance(value, tuple) or not is_within(len(value), 1, 4):
+        return False
+    return all([is_deed(deed, pays, stands) for deed in value])
+
+
+def is_deed(value, pays, stands):
+    """Whether any value is a deed of a house of so many pays and stands."""
+    return is_tuple(value, 2) and are_chances(value[0], stands) and is_row(value[1], pays)
+
+
+def are_chances(value, stands):
+    """Whether any value is the CHANCES of a deed in a house of so many stands."""
+    if not isinstance(value, tuple):
+        return False
+    least = 0
+    for each in value:
+        if not is_tuple(each, 2) or not is_within(each[0], least, stands - 1):
+            return False
+        if not is_from_nought(each[1]) or each[1][0] == 0:
+            return False
+        least = each[0] + 1
+    return total([chance for _, chance in value]) == ONE
+
+
+def is_start(house, value):
+    """Whether any value is a start of the house."""
+    check_house(house)
+    return are_odds(value, len(house[2]))
+
+
+def weighted(house, weights):
+    """The house with the one pay that the weights make."""
+    check_house(house)
+    check_weights(house, weights)
+    share, _, stands = house
+    made = []
+    for stand in stands:
+        made.append(tuple([(chances, (dot(weights, gains),)) for chances, gains in stand]))
+    return share, 1, tuple(made)
+
+
+def check_house(house):
+    """Raises InvalidHouse for no house."""
+    if not is_house(house):
+        raise InvalidHouse(house)
+
+
+def check_start(house, start):
+    """Raises InvalidStart for no start of the house."""
+    if not is_tuple(start, len(house[2])):
+        raise InvalidStart(None)
+    for at, chance in enumerate(start):
+        if not is_from_nought(chance):
+            raise InvalidStart(at)
+    if total(start) != ONE:
+        raise InvalidStart(None)
+
+
+def check_weights(house, weights):
+    """Raises InvalidWeights for no row of a fraction for each pay."""
+    if not is_tuple(weights, house[1]):
+        raise InvalidWeights(None)
+    for at, weight in enumerate(weights):
+        if not is_fraction(weight):
+            raise InvalidWeights(at)
+
+
+def check_worths(house, worths):
+    """Raises InvalidWorths for no row of a fraction for each stand."""
+    if not is_tuple(worths, len(house[2])):
+        raise InvalidWorths(None)
+    for at, worth in enumerate(worths):
+        if not is_fraction(worth):
+            raise InvalidWorths(at)
+
+
+def check_number(value, least, greatest):
+    """Raises InvalidNumber for no whole number from the least up to the greatest one."""
+    if not is_within(value, least, greatest):
+        raise InvalidNumber(value)
+
+
+def check_pay(house, pay):
+    """Raises InvalidNumber for no index of a pay."""
+    check_number(pay, 0, house[1] - 1)

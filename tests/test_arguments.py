@@ -1,0 +1,202 @@
+"""Points [3] to [5]: names of parameters, wrong arguments and their order, equal calls."""
+
+import copy
+import importlib
+import inspect
+import unittest
+from itertools import combinations
+
+from deedhouses import errors
+from deedhouses.plans import minded_of
+from deedhouses.shares import shares_of
+from tests.helpers import (
+    HALF, HUGE, NIL, ONE, QUARTER, SHOP, TOSSED, TWO, bent, draw_house, draw_minded, draw_row, draw_start, draw_still,
+    strange_values,
+)
+import random
+
+# For each file the functions of the interface with their parameters.
+STAGES = {
+    "houses": ("is_house(value)", "is_start(house, value)", "weighted(house, weights)"),
+    "plans": (
+        "is_still(house, value)", "is_choice(house, value)", "is_minded(house, value)", "still_of(house, choice)",
+        "choice_of(house, still)", "doubled(house, still)", "minded_of(house, still)",
+    ),
+    "worths": (
+        "worths_of(house, still)", "pays_of(house, start, still)", "steps_of(house, start, still, many)",
+        "minded_pays(house, start, minded)", "minded_steps(house, start, minded, many)",
+    ),
+    "shares": (
+        "are_shares(house, start, value)", "shares_of(house, start, still)", "minded_shares(house, start, minded)",
+        "pays_of_shares(house, start, shares)", "still_of_shares(house, start, shares)",
+    ),
+}
+
+# Values for a house of two stands (two deeds, one deed) and two pays; None stands for `given` itself.
+SOME = [None, True, 7, "ab", (), [], {}, (1, 2, 3), ((1, 2),), 10 ** 399]
+WRONG = {
+    "house": ("InvalidHouse", [(value, "given") for value in [*SOME, list(SHOP), (ONE, *SHOP[1:]), SHOP[2]]]),
+    "start": ("InvalidStart", [(value, None) for value in [*SOME, [ONE, NIL], (HALF, QUARTER), (ONE, ONE), (NIL, NIL)]] + [
+        (((2, 4), None), 0), ((ONE, None), 1), ((None, ONE), 0), ((TWO, (-1, 1)), 1), (((1, 0), ONE), 0),
+        ((ONE, (False, 1)), 1), ((HALF, [1, 2]), 1), ((HALF, (1, 2, 3)), 1), ((ONE, (0, 7)), 1), ((-1, "a"), 0),
+    ]),
+    "still": ("InvalidStill", [(value, None) for value in [*SOME, [(ONE, NIL), (ONE,)], ((ONE, NIL),)]] + [
+        (((HALF, QUARTER), None), 0), (((HALF, HALF), (NIL,)), 1), (((HALF, HALF), [ONE]), 1), ((None, (ONE,)), 0),
+        (((ONE, (0, 3)), (ONE,)), 0), (((ONE, NIL), ((True, 1),)), 1), (((ONE,), (ONE,)), 0), (((ONE, NIL), ONE), 1),
+    ]),
+    "choice": ("InvalidChoice", [(value, None) for value in [*SOME, [0, 0], (0,)]] + [
+        ((2, 0), 0), ((0, 1), 1), ((True, 0), 0), ((0, False), 1), ((-1, -1), 0), ((1, "0"), 1), ((1, None), 1),
+    ]),
+    "minded": ("InvalidMinded", [(value, "given") for value in [*SOME, TOSSED, list(minded_of(SHOP, TOSSED))]]),
+    "weights": ("InvalidWeights", [(value, None) for value in [*SOME, [ONE, ONE], (ONE,)]] + [
+        ((1, 2), 0), ((ONE, 2), 1), ((None, None), 0), ((ONE, None), 1), (((2, 2), ONE), 0), ((ONE, (True, 1)), 1),
+    ]),
+    "worths": ("InvalidWorths", [(value, None) for value in [*SOME, [ONE, ONE], (ONE,)]] + [
+        ((1, 2), 0), ((ONE, 2), 1), ((None, ONE), 0), ((ONE, None), 1), (((1, -1), ONE), 0), ((ONE, (True, 1)), 1),
+    ]),
+    "shares": ("InvalidShares", [(value, "given") for value in [*SOME, (((8, 5), NIL), (NIL,)), ((TWO, NIL), (ONE,))]]),
+    "many": ("InvalidNumber", [(value, "given") for value in [None, True, False, -1, 61, "3", (3,), (3, 1), [], 10 ** 399]]),
+    "bounds": ("InvalidBounds", [(value, None) for value in [*SOME, [None, None], (None,), (ONE, ONE, ONE)]] + [
+        ((1, 2), 0), ((None, 2), 1), ((None, False), 1), (((2, 2), ONE), 0), ((ONE, (1, 0)), 1), ((ONE, ()), 1),
+    ]),
+    "pay": ("InvalidNumber", [(value, "given") for value in [None, True, False, -1, 2, "0", (0,), (0, 1), [], 10 ** 399]]),
+    "mix": ("InvalidMix", [(value, "given") for value in [*SOME, ((HALF, (0, 0)),), ((HALF, (1, 0)), (HALF, (0, 0)))]]),
+    "pair": ("InvalidPair", [(value, "given") for value in [*SOME, (ONE,), (ONE, ONE, ONE), (ONE, (2, 2)), (1, 1), [ONE, ONE]]]),
+    "goals": ("InvalidGoals", [(value, None) for value in (None, True, 7, "ab", (), [], {}, [0], 10 ** 399)] + [
+        ((2,), 0), ((0, 2), 1), ((0, 0), 1), ((1, 0), 1), ((-1,), 0), ((True,), 0), ((0, True), 1), ((0, 1, 1), 2),
+        (("0", 1), 0), ((0, None), 1), ((0, 1, 2), 2), ((1, 1, "a"), 1),
+    ]),
+}
+RIGHT = {
+    "house": SHOP, "start": (ONE, NIL), "still": TOSSED, "choice": (1, 0), "weights": (ONE, (-1, 2)), "worths": (TWO, HALF),
+    "minded": (2, ((TOSSED[0], (ONE, NIL)), ((ONE,), (ONE,))), (((1, 0), (0, 0)), ((0, 1),))), "many": 3, "value": TOSSED,
+    "shares": shares_of(SHOP, (ONE, NIL), TOSSED), "bounds": (ONE, None), "pay": 1, "pair": (TWO, TWO), "goals": (1,),
+    "mix": ((HALF, (0, 0)), (HALF, (1, 0))),
+}
+
+
+def functions():
+    """(NAME, FUNCTION, PARAMETERS) of all functions of the interface that are there."""
+    for file, lines in STAGES.items():
+        module = importlib.import_module("deedhouses." + file)
+        for line in lines:
+            name, _, rest = line[:-1].partition("(")
+            yield file + "." + name, getattr(module, name), rest.split(", ")
+
+
+class ArgumentsTest(unittest.TestCase):
+    def asked(self, name, call, arguments, wrong):
+        """The call raises what is told for the first of the wrong arguments, by position and by name."""
+        kind, attribute, value = wrong
+        for asked in (lambda: call(*arguments.values()), lambda: call(**arguments)):
+            with self.assertRaises(errors.HouseError, msg=(name, arguments)) as caught:
+                asked()
+            self.assertEqual(type(caught.exception).__name__, kind, (name, arguments))
+            if attribute == "given":
+                self.assertIs(caught.exception.given, value, (name, arguments))
+            else:
+                self.assertEqual(caught.exception.index, attribute, (name, arguments))
+                self.assertNotIsInstance(caught.exception.index, bool)
+
+    def test_where_they_are_and_what_they_take(self):
+        for name, call, parameters in functions():
+            self.assertEqual(list(inspect.signature(call).parameters), parameters, name)
+            self.assertEqual(call.__module__, "deedhouses." + name.split(".")[0])
+
+    def test_one_wrong_argument(self):
+        for name, call, parameters in functions():
+            for parameter in parameters:
+                if parameter == "value":
+                    continue
+                kind, values = WRONG[parameter]
+                for value, attribute in values:
+                    arguments = {each: RIGHT[each] for each in parameters}
+                    arguments[parameter] = value
+                    self.asked(name, call, arguments, (kind, attribute, value))
+
+    def test_several_wrong_arguments(self):
+        for name, call, parameters in functions():
+            able = [each for each in parameters if each != "value"]
+            for many in range(2, len(able) + 1):
+                for wrong in combinations(able, many):
+                    for turn in range(7):
+                        arguments = {each: RIGHT[each] for each in parameters}
+                        for each in wrong:
+                            values = WRONG[each][1]
+                            arguments[each] = values[(turn * 5 + len(each)) % len(values)][0]
+                        kind, values = WRONG[wrong[0]]
+                        value, attribute = values[(turn * 5 + len(wrong[0])) % len(values)]
+                        self.asked(name, call, arguments, (kind, attribute, value))
+
+    def test_any_value_tells_no_other_error(self):
+        for name, call, parameters in functions():
+            for parameter in parameters:
+                for value in [*strange_values(), *list(bent(RIGHT[parameter]))[:150]]:
+                    arguments = {each: RIGHT[each] for each in parameters}
+                    arguments[parameter] = value
+                    before = copy.deepcopy(arguments)
+                    try:
+                        call(**arguments)
+                    except errors.HouseError as error:
+                        self.assertNotEqual(parameter, "value", (name, value))
+                        told = {WRONG[parameter][0], *LATER.get(parameter, ())}
+                        self.assertIn(type(error).__name__, told, (name, value))
+                    self.assertEqual(arguments, before)
+
+    def test_a_question_is_answered_by_true_or_false(self):
+        for name, call, parameters in functions():
+            if parameters[-1] == "value":
+                for value in [RIGHT["value"], *strange_values()]:
+                    arguments = {each: RIGHT[each] for each in parameters}
+                    arguments["value"] = value
+                    self.assertIs(type(call(**arguments)), bool, (name, value))
+
+    def test_equal_calls_return_equal_results(self):
+        told = []
+        for _ in range(3):
+            round_told = []
+            for name, call, parameters in functions():
+                arguments = copy.deepcopy({each: RIGHT[each] for each in parameters})
+                round_told.append(repr(call(**arguments)))
+                self.assertEqual(arguments, {each: RIGHT[each] for each in parameters})
+            told.append(round_told)
+        self.assertEqual(told[0], told[1])
+        self.assertEqual(told[0], told[2])
+
+    def test_tuples_are_returned(self):
+        for name, call, parameters in functions():
+            self.assertTrue(is_told_form(call(**{each: RIGHT[each] for each in parameters})), name)
+
+    def test_what_is_returned_may_be_passed(self):
+        source = random.Random(4)
+        house = draw_house(11, 3, 3, 2, share=(4, 5))
+        changed = importlib.import_module("deedhouses.houses").weighted(house, draw_row(source, 2))
+        still = draw_still(1, changed)
+        start = draw_start(1, changed)
+        worths = importlib.import_module("deedhouses.worths").steps_of(changed, start, still, 60)
+        again = importlib.import_module("deedhouses.houses").weighted(changed, worths)
+        minded = draw_minded(3, again, 2)
+        told = importlib.import_module("deedhouses.shares").minded_shares(again, start, minded)
+        self.assertIs(importlib.import_module("deedhouses.shares").are_shares(again, start, told), True)
+
+    def test_numbers_of_some_hundred_figures_are_numbers(self):
+        low, high = (1, 10 ** 399 - 1), (10 ** 399 - 2, 10 ** 399 - 1)
+        house = (low, 1, (((((0, low), (1, high)), (HUGE,)),), ((((1, ONE),), ((-HUGE[0], HUGE[1]),)),)))
+        self.assertIs(importlib.import_module("deedhouses.houses").is_house(house), True)
+        self.assertIs(importlib.import_module("deedhouses.houses").is_start(house, (high, low)), True)
+        self.assertIs(importlib.import_module("deedhouses.houses").is_start(house, (high, high)), False)
+
+
+# What a bent value, being right itself, lets later arguments be wrong by.
+LATER = {"house": {each[0] for each in WRONG.values()} | {"TooMany", "NotTwo"}, "start": {"InvalidShares"}}
+
+
+def is_told_form(value):
+    """Whether a value is made of what this package tells alone: no list, no fraction that is not in lowest terms."""
+    if isinstance(value, tuple):
+        return all(is_told_form(each) for each in value)
+    return value is None or type(value) in (int, bool, str)
+
+
+if __name__ == "__main__":
+    unittest.main()
