@@ -30,6 +30,17 @@ STAGES = {
         "are_shares(house, start, value)", "shares_of(house, start, still)", "minded_shares(house, start, minded)",
         "pays_of_shares(house, start, shares)", "still_of_shares(house, start, shares)",
     ),
+    "best": ("gaps_of(house, weights, worths)", "turn(house, weights, choice)", "best(house, weights)"),
+    "bounds": (
+        "does_keep(house, start, bounds, still)", "is_reason(house, start, bounds, value)", "keep(house, start, bounds)",
+        "most(house, start, bounds, pay)", "plain_keep(house, start, bounds)",
+    ),
+    "mixes": ("is_mix(house, value)", "mix_pays(house, start, mix)", "mix_of(house, start, still)"),
+    "polygons": ("corners(house, start)", "place(house, start, pair)"),
+    "goals": (
+        "is_goal_row(house, value)", "coming_of(house, goals, choice)", "greatest_coming(house, goals)",
+        "least_coming(house, goals)", "ranks_of(house, goals)", "sure_stands(house, goals)", "certain_stands(house, goals)",
+    ),
 }
 
 # Values for a house of two stands (two deeds, one deed) and two pays; None stands for `given` itself.
