@@ -1,16 +1,11 @@
-"""As many equations as unknown numbers, with one answer, in whole numbers throughout."""
+"""As many equations as unknown numbers, with one answer, in whole numbers throughout.
+
+All matrices here are of one kind: 1 for each number itself, less the chances by which it moves on
+to others, of which a part is lost at last. So the first equations of them have one answer for as
+many numbers, too, and no number that is divided by is 0.
+"""
 
 from deedhouses.ratios import common_bottom, ratio, scaled
-
-
-def raised(rows, at):
-    """The rows, with one of those from AT on at AT whose number there is not 0."""
-    found = at
-    while rows[found][at] == 0:
-        found += 1
-    made = list(rows)
-    made[at], made[found] = rows[found], rows[at]
-    return made
 
 
 def lowered(row, chosen, at, last):
@@ -25,7 +20,6 @@ def triangle(rows, many):
     """The rows with 0 at all places ahead of their own one, and the last of so many rows' own number."""
     last = 1
     for at in range(many):
-        rows = raised(rows, at)
         chosen = rows[at]
         rows = rows[:at + 1] + [lowered(row, chosen, at, last) for row in rows[at + 1:]]
         last = chosen[at]
