@@ -3,7 +3,7 @@
 from deedhouses.chains import chain_worths, still_chain
 from deedhouses.houses import check_house, check_weights, check_worths
 from deedhouses.plans import check_choice, plain_plan
-from deedhouses.ratios import NOUGHT, dot, is_below, minus, plus, times
+from deedhouses.ratios import NOUGHT, dot, is_below, least_index, minus, plus, times
 
 
 def gaps_of(house, weights, worths):
@@ -45,15 +45,6 @@ def improved(house, weights, choice, worths):
         least = least_index(gaps)
         changed.append(least if is_below(gaps[least], NOUGHT) else deed)
     return tuple(changed)
-
-
-def least_index(row):
-    """The first index of the least fraction of a row."""
-    found = 0
-    for at, each in enumerate(row):
-        if is_below(each, row[found]):
-            found = at
-    return found
 
 
 def choice_worths(house, weights, choice):

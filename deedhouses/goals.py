@@ -4,7 +4,7 @@ from deedhouses.equations import solved
 from deedhouses.errors import InvalidGoals
 from deedhouses.houses import check_house
 from deedhouses.plans import check_choice
-from deedhouses.ratios import NOUGHT, ONE, dot, is_below, is_within, minus
+from deedhouses.ratios import NOUGHT, ONE, dot, is_below, is_within, least_index, minus
 
 
 def is_goal_row(house, value):
@@ -41,7 +41,7 @@ def chances_of(house, goals, choice):
 def able_stands(deeds, goals):
     """The stands, goals among them, from which some goal can be reached by the one deed of each stand."""
     able = list(goals)
-    # The list grows while new stands are found that lead to those that are already in it.
+    # A stand that leads to the goals by way of others is found only when these are in the list.
     grown = True
     while grown:
         more = [at for at, row in enumerate(deeds) if at not in able and leads_to(row, able)]
@@ -64,23 +64,27 @@ def greatest_coming(house, goals):
 
 def greatest_from(house, goals):
     """The greatest chances and a choice that has them, where both arguments are known to be right."""
-    choice = (0,) * len(house[2])
+    return settled(house, goals, (0,) * len(house[2]), -1)
+
+
+def settled(house, goals, choice, sign):
+    """The chances of coming, with their choice, when no turn changes the choice any more."""
     chances = chances_of(house, goals, choice)
-    better = turned(house, goals, choice, chances, 1)
+    better = turned(house, goals, choice, chances, sign)
     while better != choice:
         choice = better
         chances = chances_of(house, goals, choice)
-        better = turned(house, goals, choice, chances, 1)
+        better = turned(house, goals, choice, chances, sign)
     return chances, choice
 
 
 def turned(house, goals, choice, chances, sign):
-    """The choice with the first deed with the greatest mean of the chances, SIGN times, where it is a greater one."""
+    """The choice with the first deed with the least mean of SIGN times the chances, where that is below the old one."""
     changed = []
     for at, stand in enumerate(house[2]):
         means = [signed(sign, mean_behind(deed, chances)) for deed in stand]
-        first = greatest_index(means)
-        is_better = at not in goals and is_below(signed(sign, chances[at]), means[first])
+        first = least_index(means)
+        is_better = at not in goals and is_below(means[first], signed(sign, chances[at]))
         changed.append(first if is_better else choice[at])
     return tuple(changed)
 
@@ -95,15 +99,6 @@ def mean_behind(deed, numbers):
     return dot([chance for _, chance in deed[0]], [numbers[to] for to, _ in deed[0]])
 
 
-def greatest_index(row):
-    """The first index of the greatest fraction of a row."""
-    found = 0
-    for at, each in enumerate(row):
-        if is_below(row[found], each):
-            found = at
-    return found
-
-
 def least_coming(house, goals):
     """The row of the least chances and a choice that has them all."""
     check_house(house)
@@ -113,14 +108,7 @@ def least_coming(house, goals):
 
 def least_from(house, goals):
     """The least chances and a choice that has them, where both arguments are known to be right."""
-    choice = avoiding_choice(house, never_stands(house, goals))
-    chances = chances_of(house, goals, choice)
-    better = turned(house, goals, choice, chances, -1)
-    while better != choice:
-        choice = better
-        chances = chances_of(house, goals, choice)
-        better = turned(house, goals, choice, chances, -1)
-    return chances, choice
+    return settled(house, goals, avoiding_choice(house, never_stands(house, goals)), 1)
 
 
 def never_stands(house, goals):

@@ -78,6 +78,15 @@ def is_below(one, two):
     return one[0] * two[1] < two[0] * one[1]
 
 
+def least_index(row):
+    """The first index of the least fraction of a row."""
+    found = 0
+    for at, each in enumerate(row):
+        if is_below(each, row[found]):
+            found = at
+    return found
+
+
 def dot(one, two):
     """The sum of the products of two rows of one length, place by place."""
     top, bottom = 0, 1
