@@ -25,8 +25,3 @@ def deed_rows(house, numbers):
         rows.append(tuple(numbers[first:first + len(stand)]))
         first += len(stand)
     return tuple(rows)
-
-
-def opposites(row):
-    """The numbers of the row with the other sign, as a tuple."""
-    return tuple([(-top, bottom) for top, bottom in row])

@@ -1,7 +1,7 @@
 """One pay: gaps, turns of improving, the best worths."""
 
 from deedhouses.chains import chain_worths, still_chain
-from deedhouses.houses import check_house, check_weights, check_worths
+from deedhouses.houses import check_house, check_weights, check_worths, mean_behind
 from deedhouses.plans import check_choice, plain_plan
 from deedhouses.ratios import NOUGHT, dot, is_below, least_index, minus, plus, times
 
@@ -26,8 +26,7 @@ def gap_rows(house, weights, worths):
 def deed_worth(share, weights, worths, deed):
     """What a deed brings of the weighted pay if the worths are what comes behind it."""
     chances, gains = deed
-    behind = dot([chance for _, chance in chances], [worths[at] for at, _ in chances])
-    return plus(dot(weights, gains), times(share, behind))
+    return plus(dot(weights, gains), times(share, mean_behind(chances, worths)))
 
 
 def turn(house, weights, choice):

@@ -1,11 +1,11 @@
 """Several pays with bounds: plans that keep them, and reasons that none does."""
 
-from deedhouses.balances import deed_columns, deed_rows, opposites
+from deedhouses.balances import deed_columns, deed_rows
 from deedhouses.best import gap_rows
 from deedhouses.errors import InvalidBounds, TooMany
 from deedhouses.houses import check_house, check_pay, check_start
 from deedhouses.plans import check_still, plain_plan
-from deedhouses.ratios import NOUGHT, ONE, dot, is_below, is_fraction, is_from_nought, is_row, is_tuple, plus
+from deedhouses.ratios import NOUGHT, ONE, dot, is_below, is_fraction, is_from_nought, is_row, is_tuple, opposites, plus
 from deedhouses.shares import still_from
 from deedhouses.tableaus import greatest_corner
 from deedhouses.worths import pays_from

@@ -2,7 +2,7 @@
 
 from deedhouses.equations import solved
 from deedhouses.errors import InvalidGoals
-from deedhouses.houses import check_house
+from deedhouses.houses import check_house, mean_behind
 from deedhouses.plans import check_choice
 from deedhouses.ratios import NOUGHT, ONE, dot, is_below, is_within, least_index, minus
 
@@ -82,7 +82,7 @@ def turned(house, goals, choice, chances, sign):
     """The choice with the first deed with the least mean of SIGN times the chances, where that is below the old one."""
     changed = []
     for at, stand in enumerate(house[2]):
-        means = [signed(sign, mean_behind(deed, chances)) for deed in stand]
+        means = [signed(sign, mean_behind(deed[0], chances)) for deed in stand]
         first = least_index(means)
         is_better = at not in goals and is_below(means[first], signed(sign, chances[at]))
         changed.append(first if is_better else choice[at])
@@ -92,11 +92,6 @@ def turned(house, goals, choice, chances, sign):
 def signed(sign, number):
     """The fraction, times 1 or -1."""
     return sign * number[0], number[1]
-
-
-def mean_behind(deed, numbers):
-    """The mean, by the deed's CHANCES, of the stands' numbers."""
-    return dot([chance for _, chance in deed[0]], [numbers[to] for to, _ in deed[0]])
 
 
 def least_coming(house, goals):

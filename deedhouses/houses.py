@@ -6,6 +6,11 @@ from deedhouses.ratios import ONE, are_odds, dot, is_fraction, is_from_nought, i
 
 def is_house(value):
     """Whether any value is a house."""
+    return is_frame(value) and all([are_chances(ways, len(value[2])) for ways in all_ways(value)])
+
+
+def is_frame(value):
+    """Whether any value is a house but for what its deeds tell of the ways on."""
     if not is_tuple(value, 3):
         return False
     share, pays, stands = value
@@ -13,19 +18,19 @@ def is_house(value):
         return False
     if not isinstance(stands, tuple) or not is_within(len(stands), 1, 8):
         return False
-    return all([is_stand(stand, pays, len(stands)) for stand in stands])
+    return all([is_stand_frame(stand, pays) for stand in stands])
 
 
-def is_stand(value, pays, stands):
-    """Whether any value is a stand of a house of so many pays and stands."""
+def is_stand_frame(value, pays):
+    """Whether any value is a stand of so many pays but for what its deeds tell of the ways on."""
     if not isinstance(value, tuple) or not is_within(len(value), 1, 4):
         return False
-    return all([is_deed(deed, pays, stands) for deed in value])
+    return all([is_tuple(deed, 2) and is_row(deed[1], pays) for deed in value])
 
 
-def is_deed(value, pays, stands):
-    """Whether any value is a deed of a house of so many pays and stands."""
-    return is_tuple(value, 2) and are_chances(value[0], stands) and is_row(value[1], pays)
+def all_ways(frame):
+    """What all deeds, in order, tell of the ways on: CHANCES or stretches."""
+    return [ways for stand in frame[2] for ways, _ in stand]
 
 
 def are_chances(value, stands):
@@ -52,11 +57,21 @@ def weighted(house, weights):
     """The house with the one pay that the weights make."""
     check_house(house)
     check_weights(house, weights)
-    share, _, stands = house
+    return weighed(house, weights)
+
+
+def weighed(frame, weights):
+    """The house, or vague house, with the one pay, where both arguments are known to be right."""
+    share, _, stands = frame
     made = []
     for stand in stands:
-        made.append(tuple([(chances, (dot(weights, gains),)) for chances, gains in stand]))
+        made.append(tuple([(ways, (dot(weights, gains),)) for ways, gains in stand]))
     return share, 1, tuple(made)
+
+
+def mean_behind(chances, numbers):
+    """The mean, by CHANCES, of the stands' numbers."""
+    return dot([chance for _, chance in chances], [numbers[to] for to, _ in chances])
 
 
 def check_house(house):
@@ -103,3 +118,13 @@ def check_number(value, least, greatest):
 def check_pay(house, pay):
     """Raises InvalidNumber for no index of a pay."""
     check_number(pay, 0, house[1] - 1)
+
+
+def check_stand(house, stand):
+    """Raises InvalidNumber for no index of a stand."""
+    check_number(stand, 0, len(house[2]) - 1)
+
+
+def check_deed(house, stand, deed):
+    """Raises InvalidNumber for no index of a deed of the stand."""
+    check_number(deed, 0, len(house[2][stand]) - 1)

@@ -17,17 +17,25 @@ def is_mix(house, value):
 
 def fits_mix(house, value):
     """Whether any value is a mix in what is known to be a house."""
+    if not is_thrown(value):
+        return False
+    choices = [choice for _, choice in value]
+    return all([fits_choice(house, choice) for choice in choices]) and is_ascending(choices)
+
+
+def is_thrown(value):
+    """Whether any value is a tuple of pairs of a chance above 0 and whatever it is, the chances of sum 1."""
     if not isinstance(value, tuple):
         return False
-    last = ()
     for part in value:
         if not is_tuple(part, 2) or not is_from_nought(part[0]) or part[0] == NOUGHT:
             return False
-        # Every choice is above the tuple of none, so the first one passes.
-        if not fits_choice(house, part[1]) or part[1] <= last:
-            return False
-        last = part[1]
     return total([chance for chance, _ in value]) == ONE
+
+
+def is_ascending(values):
+    """Whether each of the values is above the one before it."""
+    return all([one < two for one, two in zip(values, values[1:])])
 
 
 def mix_pays(house, start, mix):
@@ -35,9 +43,13 @@ def mix_pays(house, start, mix):
     check_house(house)
     check_start(house, start)
     check_mix(house, mix)
+    return mean_pays(mix, [pays_from(house, start, plain_plan(house, choice)) for _, choice in mix])
+
+
+def mean_pays(mix, rows):
+    """The mean of the rows of pays by the chances of the mix."""
     chances = [chance for chance, _ in mix]
-    pays = [pays_from(house, start, plain_plan(house, choice)) for _, choice in mix]
-    return tuple([dot(chances, column(pays, pay)) for pay in range(house[1])])
+    return tuple([dot(chances, column(rows, pay)) for pay in range(len(rows[0]))])
 
 
 def mix_of(house, start, still):

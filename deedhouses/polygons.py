@@ -1,11 +1,11 @@
 """Two pays: the polygon of the pays of all plans."""
 
-from deedhouses.balances import deed_columns, deed_rows, opposites
+from deedhouses.balances import deed_columns, deed_rows
 from deedhouses.best import best_from
 from deedhouses.errors import InvalidPair, NotTwo
 from deedhouses.houses import check_house, check_start
 from deedhouses.plans import plain_plan
-from deedhouses.ratios import NOUGHT, ONE, common_bottom, dot, is_below, is_row, minus, scaled
+from deedhouses.ratios import NOUGHT, ONE, common_bottom, dot, is_below, is_row, minus, opposites, scaled
 from deedhouses.shares import still_from
 from deedhouses.tableaus import greatest_corner
 from deedhouses.worths import pays_from

@@ -87,6 +87,16 @@ def least_index(row):
     return found
 
 
+def greatest_index(row):
+    """The first index of the greatest fraction of a row."""
+    return least_index(opposites(row))
+
+
+def opposites(row):
+    """The numbers of the row with the other sign, as a tuple."""
+    return tuple([(-top, bottom) for top, bottom in row])
+
+
 def dot(one, two):
     """The sum of the products of two rows of one length, place by place."""
     top, bottom = 0, 1

@@ -166,6 +166,175 @@ def all_gaps(house, weights, worths):
     return [gap(house, weights, worths, at, deed) for at, stand in enumerate(house[2]) for deed in range(len(stand))]
 
 
+def is_vague_too(value):
+    """Whether a value is a vague house, asked once more by [20]'s words."""
+    if type(value) is not tuple or len(value) != 3:
+        return False
+    share, pays, stands = value
+    if not is_chance(share) or number(share) >= 1 or type(pays) is not int or not 1 <= pays <= 4:
+        return False
+    if type(stands) is not tuple or not 1 <= len(stands) <= 8:
+        return False
+    for stand in stands:
+        if type(stand) is not tuple or not 1 <= len(stand) <= 4:
+            return False
+        for deed in stand:
+            if type(deed) is not tuple or len(deed) != 2 or not are_stretches_too(deed[0], len(stands)):
+                return False
+            if type(deed[1]) is not tuple or len(deed[1]) != pays or not all(is_plain_fraction(each) for each in deed[1]):
+                return False
+    return True
+
+
+def are_stretches_too(value, stands):
+    """Whether a value is the STRETCHES of a deed, by [20]'s words."""
+    if type(value) is not tuple or not all(type(each) is tuple and len(each) == 3 for each in value):
+        return False
+    told = [each[0] for each in value]
+    if not all(type(each) is int and 0 <= each < stands for each in told) or told != sorted(set(told)):
+        return False
+    ends = [(each[1], each[2]) for each in value]
+    if not all(is_chance(low) and is_chance(high) and number(low) <= number(high) <= 1 for low, high in ends):
+        return False
+    return sum(number(low) for low, _ in ends) <= 1 <= sum(number(high) for _, high in ends)
+
+
+def draw_stretches(source, stands):
+    """Drawn stretches around drawn chances, so that something fits; some ends are alike, some are 0 or 1."""
+    made = []
+    for at, chance in draw_chances(source, stands):
+        low = number(chance) * source.choice((Fraction(0), Fraction(1, 2), Fraction(3, 4), Fraction(1)))
+        high = number(chance) + (1 - number(chance)) * source.choice((Fraction(0), Fraction(1, 3), Fraction(1, 2), Fraction(1)))
+        made.append((at, pair(low), pair(high)))
+    return tuple(made)
+
+
+def draw_vague(seed, stands=3, deeds=3, pays=2, share=None):
+    """A drawn vague house."""
+    source = random.Random(seed)
+    house = draw_house(seed, stands, deeds, pays, share)
+    made = []
+    for stand in house[2]:
+        made.append(tuple((draw_stretches(source, stands), gains) for _, gains in stand))
+    return house[0], house[1], tuple(made)
+
+
+def draw_row_within(source, stretches):
+    """Drawn chances within the stretches, of sum 1; often at ends."""
+    left = {at: (number(low), number(high)) for at, low, high in stretches}
+    given = {}
+    for at in source.sample(sorted(left), len(left)):
+        low, high = left.pop(at)
+        least = max(low, 1 - sum(given.values()) - sum(each[1] for each in left.values()))
+        greatest = min(high, 1 - sum(given.values()) - sum(each[0] for each in left.values()))
+        given[at] = least + (greatest - least) * Fraction(source.choice((0, 0, 1, 2, 3, 4, 4)), 4)
+    return tuple((at, pair(given[at])) for at in sorted(given) if given[at] != 0)
+
+
+def draw_fitting(seed, vague):
+    """A drawn house that fits the vague one."""
+    source = random.Random(seed)
+    made = []
+    for stand in vague[2]:
+        made.append(tuple((draw_row_within(source, ways), gains) for ways, gains in stand))
+    return vague[0], vague[1], tuple(made)
+
+
+def fits_too(vague, house):
+    """Whether what is known to be a house fits, by [20]'s words."""
+    if house[:2] != vague[:2] or [len(stand) for stand in house[2]] != [len(stand) for stand in vague[2]]:
+        return False
+    for told, stand in zip(vague[2], house[2]):
+        for (ways, told_gains), (chances, gains) in zip(told, stand):
+            row_of_chances = {at: number(each) for at, each in chances}
+            for at, low, high in ways:
+                if not number(low) <= row_of_chances.pop(at, Fraction(0)) <= number(high):
+                    return False
+            if row_of_chances or gains != told_gains:
+                return False
+    return True
+
+
+def end_rows(ways):
+    """All rows of [28]'s corners for some stretches, as Python's own numbers, each once."""
+    found = []
+    for free in range(len(ways)):
+        for ends in product(*[(number(low), number(high)) for at, (_, low, high) in enumerate(ways) if at != free]):
+            own = list(ends[:free]) + [1 - sum(ends)] + list(ends[free:])
+            if number(ways[free][1]) <= own[free] <= number(ways[free][2]) and own not in found:
+                found.append(own)
+    return found
+
+
+def corner_houses_of(vague, choice):
+    """All houses in which the choice's rows are corners; other deeds are filled somehow."""
+    source = random.Random(1)
+    lots = []
+    for stand, deed in zip(vague[2], choice):
+        ways = stand[deed][0]
+        lots.append([tuple((each[0], pair(own)) for each, own in zip(ways, ends) if own != 0) for ends in end_rows(ways)])
+    for picked in product(*lots):
+        made = []
+        for stand, deed, own in zip(vague[2], choice, picked):
+            made.append(tuple(
+                (own if at == deed else draw_row_within(source, ways), gains) for at, (ways, gains) in enumerate(stand)
+            ))
+        yield vague[0], vague[1], tuple(made)
+
+
+def weighted_worths(house, weights, still):
+    """The worths of the one pay that weights make, in another way than the package's."""
+    rows = [plain_worths(house, still, pay) for pay in range(house[1])]
+    return [sum(number(weight) * each[at] for weight, each in zip(weights, rows)) for at in range(len(house[2]))]
+
+
+def draw_dim(seed, stands=4, deeds=2, marks=2, pays=1, share=None):
+    """A drawn dim house: each mark has as many deeds at each of its stands."""
+    source = random.Random(seed)
+    share = share or source.choice(((0, 1), (1, 2), (2, 3), (9, 10)))
+    told = list(range(marks)) + [source.randrange(marks) for _ in range(stands - marks)]
+    source.shuffle(told)
+    many = [source.randint(1, deeds) for _ in range(marks)]
+    made = []
+    for mark in told:
+        made.append(tuple((draw_chances(source, stands), draw_row(source, pays)) for _ in range(many[mark])))
+    return (share, pays, tuple(made)), tuple(told)
+
+
+def deeds_of_mark(dim, mark):
+    return len(dim[0][2][dim[1].index(mark)])
+
+
+def all_trees(dim, mark, many):
+    """All trees for a mark and so many steps."""
+    if many == 0:
+        return [()]
+    behind = list(product(*[all_trees(dim, other, many - 1) for other in range(max(dim[1]) + 1)]))
+    return [(deed, trees) for deed in range(deeds_of_mark(dim, mark)) for trees in behind]
+
+
+def tree_number(dim, weights, tree, at):
+    """What a tree brings from one stand, by the told sums."""
+    if tree == ():
+        return Fraction(0)
+    share, _, stands = dim[0]
+    chances, gains = stands[at][tree[0]]
+    own = sum(number(weight) * number(gain) for weight, gain in zip(weights, gains))
+    behind = sum(number(chance) * tree_number(dim, weights, tree[1][dim[1][to]], to) for to, chance in chances)
+    return own + number(share) * behind
+
+
+def is_tree_too(dim, mark, many, value):
+    """Whether a value is a tree, by [31]'s words."""
+    if many == 0:
+        return type(value) is tuple and value == ()
+    if type(value) is not tuple or len(value) != 2 or type(value[0]) is not int or type(value[1]) is not tuple:
+        return False
+    if not 0 <= value[0] < deeds_of_mark(dim, mark) or len(value[1]) != max(dim[1]) + 1:
+        return False
+    return all(is_tree_too(dim, other, many - 1, tree) for other, tree in enumerate(value[1]))
+
+
 def strange_values():
     """Values of many kinds, none of them a thing that this package tells of by name."""
     return [

@@ -41,12 +41,62 @@ STAGES = {
         "is_goal_row(house, value)", "coming_of(house, goals, choice)", "greatest_coming(house, goals)",
         "least_coming(house, goals)", "ranks_of(house, goals)", "sure_stands(house, goals)", "certain_stands(house, goals)",
     ),
+    "timed": ("timed_worths(house, weights, many)", "timed_choices(house, weights, many)"),
+    "stretches": (
+        "is_vague(value)", "fits(vague, house)", "vague_of(house)", "filled(stretches, worths, is_greatest)",
+        "corners(stretches)", "corner_houses(vague, choice)",
+    ),
+    "worst": (
+        "worst_worths(vague, weights, still)", "best_worths(vague, weights, still)", "worst_house(vague, weights, still)",
+        "best_house(vague, weights, still)", "safest(vague, weights)", "surely_keeps(vague, start, bounds, still)",
+        "not_kept(vague, start, bounds, still)",
+    ),
+    "logs": ("is_sketch(value)", "counts_of(sketch, log)", "reach(sketch, log, allowance)"),
+    "better": (
+        "lead(vague, weights, one, two, start)", "least_more(vague, weights, choice, stand, deed)",
+        "is_surely_better(vague, weights, choice, stand, deed)",
+    ),
+    "moves": (
+        "gain_room(house, weights, choice, stand, deed)", "chance_room(house, weights, choice, stand, deed, source, target)",
+    ),
+    "sights": (
+        "is_dim(value)", "is_tree(dim, mark, many, value)", "is_lookout(dim, many, value)", "holds_of(dim, start)",
+        "behind(dim, mark, hold, deed)", "row_of(dim, weights, mark, many, tree)", "lookout_pays(dim, start, many, lookout)",
+    ),
+    "sightbest": (
+        "best_left(dim, weights, mark, many, hold)", "best_lookout(dim, start, weights, many)", "rows_left(dim, weights, many)",
+        "parted(rows, row)",
+    ),
+    "sightbounds": (
+        "is_sight_mix(dim, many, value)", "sight_mix_pays(dim, start, many, mix)", "sight_keep(dim, start, bounds, many)",
+    ),
+    "language": (
+        "is_named(value)", "read_house(text)", "house_text(named)", "named_of(house)", "reordered(named, order)",
+    ),
 }
 
-# Values for a house of two stands (two deeds, one deed) and two pays; None stands for `given` itself.
+VAGUE = (HALF, 2, (
+    ((((0, QUARTER, (3, 4)), (1, QUARTER, (3, 4))), (TWO, NIL)), (((0, ONE, ONE),), (ONE, ONE))),
+    ((((0, HALF, ONE), (1, NIL, HALF)), (NIL, NIL)),),
+))
+SKETCH = (HALF, 2, (
+    ((((0, NIL, ONE), (1, NIL, ONE)), (TWO, NIL)), (((0, NIL, ONE),), (ONE, ONE))), ((((0, NIL, ONE),), (NIL, NIL)),),
+))
+TREE = (1, ((), ()))
+LOOKOUT = (TREE, (0, ((), ())))
+NAMED = (SHOP, (("money", "calm"), ("shop", "home"), (("work", "rest"), ("sleep",))))
+TEXT = "share 1/2\npays money, calm\nstand shop\ndeed work: 1/2 shop, 1/2 home gets 2, 0\nstand home\ndeed sleep: 1 shop gets 0, 0"
+
+
+def given(*values):
+    """Values that are told as they are."""
+    return [(value, "given") for value in values]
+
+
+# Values for a house of two stands (two deeds, one deed) and two pays, each with the index that is told of it.
 SOME = [None, True, 7, "ab", (), [], {}, (1, 2, 3), ((1, 2),), 10 ** 399]
 WRONG = {
-    "house": ("InvalidHouse", [(value, "given") for value in [*SOME, list(SHOP), (ONE, *SHOP[1:]), SHOP[2]]]),
+    "house": ("InvalidHouse", given(*SOME, list(SHOP), (ONE, *SHOP[1:]), SHOP[2])),
     "start": ("InvalidStart", [(value, None) for value in [*SOME, [ONE, NIL], (HALF, QUARTER), (ONE, ONE), (NIL, NIL)]] + [
         (((2, 4), None), 0), ((ONE, None), 1), ((None, ONE), 0), ((TWO, (-1, 1)), 1), (((1, 0), ONE), 0),
         ((ONE, (False, 1)), 1), ((HALF, [1, 2]), 1), ((HALF, (1, 2, 3)), 1), ((ONE, (0, 7)), 1), ((-1, "a"), 0),
@@ -58,32 +108,107 @@ WRONG = {
     "choice": ("InvalidChoice", [(value, None) for value in [*SOME, [0, 0], (0,)]] + [
         ((2, 0), 0), ((0, 1), 1), ((True, 0), 0), ((0, False), 1), ((-1, -1), 0), ((1, "0"), 1), ((1, None), 1),
     ]),
-    "minded": ("InvalidMinded", [(value, "given") for value in [*SOME, TOSSED, list(minded_of(SHOP, TOSSED))]]),
+    "minded": ("InvalidMinded", given(*SOME, TOSSED, list(minded_of(SHOP, TOSSED)))),
     "weights": ("InvalidWeights", [(value, None) for value in [*SOME, [ONE, ONE], (ONE,)]] + [
         ((1, 2), 0), ((ONE, 2), 1), ((None, None), 0), ((ONE, None), 1), (((2, 2), ONE), 0), ((ONE, (True, 1)), 1),
     ]),
     "worths": ("InvalidWorths", [(value, None) for value in [*SOME, [ONE, ONE], (ONE,)]] + [
         ((1, 2), 0), ((ONE, 2), 1), ((None, ONE), 0), ((ONE, None), 1), (((1, -1), ONE), 0), ((ONE, (True, 1)), 1),
     ]),
-    "shares": ("InvalidShares", [(value, "given") for value in [*SOME, (((8, 5), NIL), (NIL,)), ((TWO, NIL), (ONE,))]]),
-    "many": ("InvalidNumber", [(value, "given") for value in [None, True, False, -1, 61, "3", (3,), (3, 1), [], 10 ** 399]]),
+    "shares": ("InvalidShares", given(*SOME, (((8, 5), NIL), (NIL,)), ((TWO, NIL), (ONE,)))),
+    "many": ("InvalidNumber", given(None, True, False, -1, 61, "3", (3,), (3, 1), [], 10 ** 399)),
     "bounds": ("InvalidBounds", [(value, None) for value in [*SOME, [None, None], (None,), (ONE, ONE, ONE)]] + [
         ((1, 2), 0), ((None, 2), 1), ((None, False), 1), (((2, 2), ONE), 0), ((ONE, (1, 0)), 1), ((ONE, ()), 1),
     ]),
-    "pay": ("InvalidNumber", [(value, "given") for value in [None, True, False, -1, 2, "0", (0,), (0, 1), [], 10 ** 399]]),
-    "mix": ("InvalidMix", [(value, "given") for value in [*SOME, ((HALF, (0, 0)),), ((HALF, (1, 0)), (HALF, (0, 0)))]]),
-    "pair": ("InvalidPair", [(value, "given") for value in [*SOME, (ONE,), (ONE, ONE, ONE), (ONE, (2, 2)), (1, 1), [ONE, ONE]]]),
+    "pay": ("InvalidNumber", given(None, True, False, -1, 2, "0", (0,), (0, 1), [], 10 ** 399)),
+    "mix": ("InvalidMix", given(*SOME, ((HALF, (0, 0)),), ((HALF, (1, 0)), (HALF, (0, 0))))),
+    "pair": ("InvalidPair", given(*SOME, (ONE,), (ONE, ONE, ONE), (ONE, (2, 2)), (1, 1), [ONE, ONE])),
     "goals": ("InvalidGoals", [(value, None) for value in (None, True, 7, "ab", (), [], {}, [0], 10 ** 399)] + [
         ((2,), 0), ((0, 2), 1), ((0, 0), 1), ((1, 0), 1), ((-1,), 0), ((True,), 0), ((0, True), 1), ((0, 1, 1), 2),
         (("0", 1), 0), ((0, None), 1), ((0, 1, 2), 2), ((1, 1, "a"), 1),
+    ]),
+}
+NUMBERS = [None, True, False, -1, 8, 10 ** 399, "0", (0,), (0, 1), [], {}]
+CHANCES = [None, True, 0, 1, "0", (0,), [], (2, 4), (1, 0), (True, 1), (0, 1, 2)]
+WRONG.update({
+    "vague": ("InvalidVague", given(*SOME, SHOP, [*VAGUE], VAGUE[2], (ONE, *VAGUE[1:]), (HALF, 3, VAGUE[2]))),
+    "sketch": ("InvalidVague", given(*SOME, SHOP, VAGUE, [*SKETCH])),
+    "one": WRONG["still"], "two": WRONG["still"],
+    "stand": ("InvalidNumber", given(*NUMBERS, 2)),
+    "deed": ("InvalidNumber", given(*NUMBERS, 2)),
+    "source": ("InvalidNumber", given(*NUMBERS, 2)),
+    "target": ("InvalidNumber", given(*NUMBERS, 2, 0)),
+    "mark": ("InvalidNumber", given(*NUMBERS, 2)),
+    "log": ("InvalidLog", [(value, None) for value in [None, True, 7, "ab", [], {}, ((0, 0, 0),) * 201]] + [
+        ((None,), 0), (((0, 0, 0), (0, 0)), 1), (((0, 1, 1),), 0), (((2, 0, 0),), 0), (((0, 2, 0),), 0), (((0, False, 0),), 0),
+        (((0, 0, 0), [0, 0, 0]), 1), (((0, 0, 1), (1, 0, 1), (0, 0, 0)), 1), (((0, 0, 0),) * 199 + ((0, 0, -1),), 199),
+    ]),
+    "allowance": ("InvalidNumber", given(*CHANCES, (-1, 2), (-1, 1))),
+    "stretches": ("InvalidStretches", given(*SOME, ((0, NIL, HALF),), ((8, ONE, ONE),), [(0, ONE, ONE)])),
+    "is_greatest": ("InvalidFlag", given(None, 0, 1, "True", (), [], {}, (True,), NIL, ONE)),
+    "dim": ("InvalidDim", given(*SOME, SHOP, (SHOP, (0, 0)), (SHOP, (0,)), (SHOP, (0, 2)), [SHOP, (0, 1)])),
+    "hold": ("InvalidHold", [(value, None) for value in [*SOME, [ONE, NIL], (ONE,)]] + [
+        ((None, NIL), 0), ((ONE, None), 1), ((ONE, ONE), 1), (((-1, 2), NIL), 0), ((ONE, (0, 2)), 1), ((ONE, (-1, 2)), 1),
+        (((2, 4), ONE), 0), ((1, 0), 0), ((ONE, 0), 1), ((ONE, (False, 1)), 1),
+    ]),
+    "tree": ("InvalidTree", given(*SOME, (0, ()), (2, ((), ())), [1, ((), ())], (True, ((), ())), (1, ((),)))),
+    "lookout": ("InvalidLookout", given(*SOME, TREE, (TREE,), (TREE, TREE), [TREE, (0, ((), ()))])),
+    "rows": ("InvalidRows", [(value, None) for value in (None, True, 7, "ab", (), [], {}, 10 ** 399, ((ONE,),) * 61)] + [
+        ((1, 2), 0), ((None,), 0), ((ONE,), 0), (((ONE,), (ONE, ONE)), 1), (((ONE, NIL), (ONE, (2, 2))), 1), (((NIL,) * 9,), 0),
+        (((),), 0), (((ONE,), [ONE]), 1), (((ONE,), (ONE,), None), 2),
+    ]),
+    "row": ("InvalidRow", given(*SOME, (ONE,), [ONE, ONE], (ONE, ONE, ONE), (ONE, (2, 2)), (ONE, 1))),
+    "named": ("InvalidNamed", given(*SOME, SHOP, list(NAMED), (SHOP, NAMED[1][:2]), (SHOP, (("a", "a"), *NAMED[1][1:])))),
+    "order": ("InvalidOrder", [(value, None) for value in [*SOME, [0, 1], (0,), (0, 1, 2)]] + [
+        ((2, 0), 0), ((0, 0), 1), ((1, 1), 1), ((True, 0), 0), ((1, False), 1), ((-1, 0), 0), ((1, None), 1), (("0", 1), 0),
+    ]),
+})
+# What is told of a parameter in one file or of one function alone.
+STEPS = [*NUMBERS, 5, 31, 61]
+OTHERS = {
+    ("timed", "many"): ("InvalidNumber", given(None, True, -1, 31, "3", (3,), (3, 1), [], 10 ** 399)),
+    ("stretches", "worths"): ("InvalidWorths", [
+        (value, None) for value in (None, True, 7, "ab", (), [], {}, (ONE,), (ONE,) * 9, [ONE, ONE])
+    ] + [
+        ((1, 2), 0), ((ONE, 2), 1), ((ONE, NIL, None), 2), ((ONE, ONE, (2, 2)), 2), ((None, ONE), 0), ((ONE,) * 7 + ((True, 1),), 7),
+    ]),
+    ("better", "deed"): ("InvalidNumber", given(*NUMBERS, 2, 1)),
+    ("sights", "many"): ("InvalidNumber", [(value, "given") for value in STEPS]),
+    ("sightbest", "many"): ("InvalidNumber", [(value, "given") for value in STEPS]),
+    ("sightbounds", "many"): ("InvalidNumber", [(value, "given") for value in STEPS]),
+    ("sightbounds", "mix"): ("InvalidMix", given(*SOME, ((HALF, LOOKOUT),), ((HALF, LOOKOUT), (HALF, LOOKOUT)), [(ONE, LOOKOUT)])),
+    ("language", "text"): ("InvalidText", [(value, (None, None)) for value in SOME if value != "ab"] + [
+        ("ab", (0, 0)), (TEXT[:-1], (5, 27)),
     ]),
 }
 RIGHT = {
     "house": SHOP, "start": (ONE, NIL), "still": TOSSED, "choice": (1, 0), "weights": (ONE, (-1, 2)), "worths": (TWO, HALF),
     "minded": (2, ((TOSSED[0], (ONE, NIL)), ((ONE,), (ONE,))), (((1, 0), (0, 0)), ((0, 1),))), "many": 3, "value": TOSSED,
     "shares": shares_of(SHOP, (ONE, NIL), TOSSED), "bounds": (ONE, None), "pay": 1, "pair": (TWO, TWO), "goals": (1,),
-    "mix": ((HALF, (0, 0)), (HALF, (1, 0))),
+    "mix": ((HALF, (0, 0)), (HALF, (1, 0))), "vague": VAGUE, "sketch": SKETCH, "one": TOSSED, "two": TOSSED, "stand": 0,
+    "deed": 0, "source": 0, "target": 1, "log": ((0, 0, 0), (0, 0, 1), (1, 0, 0), (0, 0, 0)), "allowance": HALF,
+    "stretches": VAGUE[2][0][0][0], "is_greatest": True, "dim": (SHOP, (0, 1)), "mark": 0, "hold": (TWO, NIL), "tree": TREE,
+    "lookout": LOOKOUT, "rows": ((ONE, NIL), (HALF, HALF)), "row": (HALF, HALF), "named": NAMED, "order": (1, 0), "text": TEXT,
 }
+OTHER_RIGHTS = {
+    ("moves", "choice"): (0, 0), ("sights", "many"): 1, ("sightbest", "many"): 1, ("sightbounds", "many"): 1,
+    ("sightbounds", "mix"): ((ONE, LOOKOUT),),
+}
+# Parameters that any value may be passed for: the answer is True or False.
+WHATEVER = {("fits", "house")}
+
+
+def wrong_of(name, parameter):
+    return OTHERS.get((name.split(".")[0], parameter)) or WRONG[parameter]
+
+
+def right_of(name, parameters):
+    """Right arguments of a function."""
+    return {each: OTHER_RIGHTS.get((name.split(".")[0], each), RIGHT[each]) for each in parameters}
+
+
+def is_whatever(name, parameter):
+    return parameter == "value" or (name.split(".")[1], parameter) in WHATEVER
 
 
 def functions():
@@ -105,6 +230,8 @@ class ArgumentsTest(unittest.TestCase):
             self.assertEqual(type(caught.exception).__name__, kind, (name, arguments))
             if attribute == "given":
                 self.assertIs(caught.exception.given, value, (name, arguments))
+            elif kind == "InvalidText":
+                self.assertEqual((caught.exception.line, caught.exception.place), attribute, (name, arguments))
             else:
                 self.assertEqual(caught.exception.index, attribute, (name, arguments))
                 self.assertNotIsInstance(caught.exception.index, bool)
@@ -117,25 +244,25 @@ class ArgumentsTest(unittest.TestCase):
     def test_one_wrong_argument(self):
         for name, call, parameters in functions():
             for parameter in parameters:
-                if parameter == "value":
+                if is_whatever(name, parameter):
                     continue
-                kind, values = WRONG[parameter]
+                kind, values = wrong_of(name, parameter)
                 for value, attribute in values:
-                    arguments = {each: RIGHT[each] for each in parameters}
+                    arguments = right_of(name, parameters)
                     arguments[parameter] = value
                     self.asked(name, call, arguments, (kind, attribute, value))
 
     def test_several_wrong_arguments(self):
         for name, call, parameters in functions():
-            able = [each for each in parameters if each != "value"]
+            able = [each for each in parameters if not is_whatever(name, each)]
             for many in range(2, len(able) + 1):
                 for wrong in combinations(able, many):
                     for turn in range(7):
-                        arguments = {each: RIGHT[each] for each in parameters}
+                        arguments = right_of(name, parameters)
                         for each in wrong:
-                            values = WRONG[each][1]
+                            values = wrong_of(name, each)[1]
                             arguments[each] = values[(turn * 5 + len(each)) % len(values)][0]
-                        kind, values = WRONG[wrong[0]]
+                        kind, values = wrong_of(name, wrong[0])
                         value, attribute = values[(turn * 5 + len(wrong[0])) % len(values)]
                         self.asked(name, call, arguments, (kind, attribute, value))
 
@@ -143,23 +270,23 @@ class ArgumentsTest(unittest.TestCase):
         for name, call, parameters in functions():
             for parameter in parameters:
                 for value in [*strange_values(), *list(bent(RIGHT[parameter]))[:150]]:
-                    arguments = {each: RIGHT[each] for each in parameters}
+                    arguments = right_of(name, parameters)
                     arguments[parameter] = value
                     before = copy.deepcopy(arguments)
                     try:
                         call(**arguments)
                     except errors.HouseError as error:
-                        self.assertNotEqual(parameter, "value", (name, value))
-                        told = {WRONG[parameter][0], *LATER.get(parameter, ())}
+                        self.assertFalse(is_whatever(name, parameter), (name, value))
+                        told = {wrong_of(name, parameter)[0], *LATER.get(parameter, ())}
                         self.assertIn(type(error).__name__, told, (name, value))
                     self.assertEqual(arguments, before)
 
     def test_a_question_is_answered_by_true_or_false(self):
         for name, call, parameters in functions():
-            if parameters[-1] == "value":
+            if is_whatever(name, parameters[-1]):
                 for value in [RIGHT["value"], *strange_values()]:
-                    arguments = {each: RIGHT[each] for each in parameters}
-                    arguments["value"] = value
+                    arguments = right_of(name, parameters)
+                    arguments[parameters[-1]] = value
                     self.assertIs(type(call(**arguments)), bool, (name, value))
 
     def test_equal_calls_return_equal_results(self):
@@ -167,16 +294,16 @@ class ArgumentsTest(unittest.TestCase):
         for _ in range(3):
             round_told = []
             for name, call, parameters in functions():
-                arguments = copy.deepcopy({each: RIGHT[each] for each in parameters})
+                arguments = copy.deepcopy(right_of(name, parameters))
                 round_told.append(repr(call(**arguments)))
-                self.assertEqual(arguments, {each: RIGHT[each] for each in parameters})
+                self.assertEqual(arguments, right_of(name, parameters))
             told.append(round_told)
         self.assertEqual(told[0], told[1])
         self.assertEqual(told[0], told[2])
 
     def test_tuples_are_returned(self):
         for name, call, parameters in functions():
-            self.assertTrue(is_told_form(call(**{each: RIGHT[each] for each in parameters})), name)
+            self.assertTrue(is_told_form(call(**right_of(name, parameters))), name)
 
     def test_what_is_returned_may_be_passed(self):
         source = random.Random(4)
@@ -199,7 +326,14 @@ class ArgumentsTest(unittest.TestCase):
 
 
 # What a bent value, being right itself, lets later arguments be wrong by.
-LATER = {"house": {each[0] for each in WRONG.values()} | {"TooMany", "NotTwo"}, "start": {"InvalidShares"}}
+LATER = {
+    **{each: {kind for kind, _ in [*WRONG.values(), *OTHERS.values()]} | {"TooMany", "NotTwo", "NotBest"}
+       for each in ("house", "vague", "sketch", "dim", "named")},
+    "start": {"InvalidShares"}, "stretches": {"InvalidWorths"}, "rows": {"InvalidRow"},
+    "mark": {"InvalidHold", "InvalidNumber", "InvalidTree"},
+    "many": {"InvalidTree", "InvalidLookout", "InvalidMix"}, "weights": {"NotBest"}, "choice": {"NotBest", "InvalidNumber"},
+    "stand": {"InvalidNumber"}, "text": {"TwiceNamed", "UnknownName", "NoSum", "InvalidNumber"},
+}
 
 
 def is_told_form(value):

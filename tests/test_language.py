@@ -18,7 +18,7 @@ METHODS = set(
 NODES = (
     ast.Global, ast.AsyncFunctionDef, ast.Await, ast.Import, ast.Div, ast.Lambda, ast.SetComp, ast.Set, ast.GeneratorExp,
     ast.NamedExpr, ast.Try, ast.With, ast.Match, ast.Yield, ast.YieldFrom, ast.Assert, ast.Delete, ast.Nonlocal,
-    ast.JoinedStr, ast.Pow, ast.AnnAssign, ast.DictComp,
+    ast.JoinedStr, ast.AnnAssign,
 )
 BARRED = set(
     "register mro elements open input law version_info with_traceback add_note attrgetter breakpoint compile copyright dir"
@@ -84,6 +84,8 @@ class LanguageTest(unittest.TestCase):
                 if isinstance(node, ast.Call):
                     self.assertFalse([each for each in node.args if isinstance(each, ast.Starred)], file)
                     self.assertEqual(node.keywords, [], file)
+                if isinstance(node, ast.BinOp) and isinstance(node.op, ast.Pow):
+                    self.assertIn(getattr(node.right, "value", None), range(65), file)
                 if isinstance(node, ast.Compare):
                     for sign, side in zip(node.ops, node.comparators):
                         if isinstance(sign, (ast.Is, ast.IsNot)):
@@ -162,13 +164,13 @@ class LanguageTest(unittest.TestCase):
                 self.assertNotIn(part, text, file)
 
     def test_calls(self):
+        classes = [
+            node for file in files() for node in ast.parse(file.read_text()).body if isinstance(node, ast.ClassDef)
+        ]
+        methods = {each.name for node in classes for each in node.body if isinstance(each, ast.FunctionDef)}
+        self.assertFalse(methods & {name for kind in (str, list, dict, tuple, set, int, bytes) for name in dir(kind)} - {"__init__"})
         for file in files():
-            tree = ast.parse(file.read_text())
-            methods = {
-                each.name for node in tree.body if isinstance(node, ast.ClassDef) for each in node.body
-                if isinstance(each, ast.FunctionDef)
-            }
-            for node in ast.walk(tree):
+            for node in ast.walk(ast.parse(file.read_text())):
                 if isinstance(node, ast.Name) and hasattr(builtins, node.id):
                     self.assertIn(node.id, BUILTINS, file)
                 if isinstance(node, ast.Call) and isinstance(node.func, ast.Attribute):
@@ -185,10 +187,10 @@ class LanguageTest(unittest.TestCase):
     def test_comprehensions_use_names_of_their_own(self):
         for file in files():
             for node in ast.walk(ast.parse(file.read_text())):
-                if isinstance(node, ast.ListComp):
+                if isinstance(node, (ast.ListComp, ast.DictComp)):
                     own = {name for each in node.generators for name in targets(each.target)}
                     for inner in ast.walk(node):
-                        if isinstance(inner, ast.ListComp) and inner is not node:
+                        if isinstance(inner, (ast.ListComp, ast.DictComp)) and inner is not node:
                             other = {name for each in inner.generators for name in targets(each.target)}
                             self.assertFalse(own & other - {"_"}, (file, node.lineno))
 
