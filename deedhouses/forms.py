@@ -45,7 +45,7 @@ def stand_forms(lines, pays):
     for line in lines:
         can_deed = len(stands) > 0 and len(stands[-1][4]) < 4
         can_stand = left > 0 and (len(stands) == 0 or len(stands[-1][4]) > 0)
-        if can_deed and (line.is_next("d") or not can_stand):
+        if can_deed and line.is_next("d"):
             stands[-1][4].append(deed_line(line, pays, stands[-1][3] is not None))
         elif can_stand:
             stands.append(stand_line(line, left))

@@ -2,7 +2,7 @@
 
 from deedhouses.errors import InvalidLog, InvalidNumber, InvalidVague
 from deedhouses.houses import all_ways
-from deedhouses.ratios import NOUGHT, ONE, is_below, is_from_nought, is_tuple, is_within, ratio
+from deedhouses.ratios import NOUGHT, ONE, is_below, is_from_nought, is_tuple, is_whole, is_within, ratio
 from deedhouses.stretches import is_vague
 
 
@@ -82,9 +82,9 @@ def is_log_row(sketch, value):
     if not is_tuple(value, 3) or not is_within(value[0], 0, len(stands) - 1):
         return False
     stand = stands[value[0]]
-    if not is_within(value[1], 0, len(stand) - 1) or not is_within(value[2], 0, len(stands) - 1):
+    if not is_within(value[1], 0, len(stand) - 1):
         return False
-    return value[2] in [to for to, _, _ in stand[value[1]][0]]
+    return is_whole(value[2]) and value[2] in [to for to, _, _ in stand[value[1]][0]]
 
 
 def check_allowance(allowance):

@@ -2,6 +2,7 @@
 
 import random
 import unittest
+from fractions import Fraction
 from itertools import permutations
 
 from deedhouses.errors import InvalidChoice, InvalidFlag, InvalidHouse, InvalidStretches, InvalidVague, InvalidWorths
@@ -102,6 +103,16 @@ class FitsTest(unittest.TestCase):
         self.assertIs(fits((HALF, 1, vague[2] + vague[2][1:]), right), False)
         for ends in ((QUARTER, (3, 4)), ((3, 4), QUARTER)):
             self.assertIs(fits(vague, (HALF, 1, ((((tuple(enumerate(ends)), (ONE,)), first[1])), second))), True)
+
+    def test_one_end_alone(self):
+        # The other chance may be whatever it is: only one end of one stretch is passed, by a little.
+        vague = one_deed((0, QUARTER, (3, 4)), (1, NIL, ONE))
+        little = Fraction(1, 10 ** 9)
+        for chance, told in (
+            (Fraction(1, 4), True), (Fraction(1, 4) - little, False), (Fraction(3, 4), True), (Fraction(3, 4) + little, False),
+        ):
+            house = (HALF, 1, (((((0, pair(chance)), (1, pair(1 - chance))), (ONE,)),), ((((1, ONE),), (ONE,)),)))
+            self.assertIs(fits(vague, house), told)
 
     def test_whatever_it_is(self):
         for value in [*strange_values(), VAGUE, list(SHOP)]:
