@@ -56,6 +56,11 @@ def keep(house, start, bounds):
     check_house(house)
     check_start(house, start)
     check_bounds(house, bounds)
+    return kept_or_not(house, start, bounds)
+
+
+def kept_or_not(house, start, bounds):
+    """What keep tells, where all arguments are known to be right."""
     found = greatest_kept(house, start, bounds, None)
     if found[0] == "none":
         return refused(house, bounds, found[1])

@@ -90,6 +90,11 @@ def step_counts(chain, start, many):
     return [ratio(each, bottom) for each in sums]
 
 
+def counts_in(chain, start, many):
+    """For each state how often one is there in so many steps, or, for None, in all of them."""
+    return chain_counts(chain, start) if many is None else step_counts(chain, start, many)
+
+
 def lead_to(moves, tops, to):
     """The sum of all states' numbers times their moves to one state."""
     return sum([top * move[to] for top, move in zip(tops, moves)])

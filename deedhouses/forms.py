@@ -79,7 +79,7 @@ def deed_line(line, pays, in_row):
     line.word("deed ")
     named = line.name()
     line.word(": ")
-    parts = chance_parts(line, in_row)
+    parts = chance_parts(line, 8, in_row)
     line.word(" gets ")
     gains = [gain(line, in_row)]
     while len(gains) < pays:
@@ -89,10 +89,10 @@ def deed_line(line, pays, in_row):
     return line.index, named, parts, gains
 
 
-def chance_parts(line, in_row):
-    """One to eight parts of CHANCES."""
+def chance_parts(line, most, in_row):
+    """One part of CHANCES or ODDS, or more, up to the told number."""
     parts = [chance_part(line, in_row)]
-    while len(parts) < 8 and line.is_next(","):
+    while len(parts) < most and line.is_next(","):
         line.word(", ")
         parts.append(chance_part(line, in_row))
     return parts

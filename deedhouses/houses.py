@@ -1,7 +1,8 @@
 """Houses, starts, and the checks of arguments that hang on the house alone."""
 
 from deedhouses.errors import InvalidHouse, InvalidNumber, InvalidStart, InvalidWeights, InvalidWorths
-from deedhouses.ratios import ONE, are_odds, dot, is_fraction, is_from_nought, is_row, is_tuple, is_within, total
+from deedhouses.ratios import ONE, are_odds, dot, is_fraction, is_from_nought, is_row, is_tuple, is_whole, is_within
+from deedhouses.ratios import total
 
 
 def is_house(value):
@@ -45,6 +46,17 @@ def are_chances(value, stands):
             return False
         least = each[0] + 1
     return total([chance for _, chance in value]) == ONE
+
+
+def is_step(frame, value):
+    """Whether any value is a triple of a stand, a deed of it, and a stand that the deed tells ways on to."""
+    stands = frame[2]
+    if not is_tuple(value, 3) or not is_within(value[0], 0, len(stands) - 1):
+        return False
+    stand = stands[value[0]]
+    if not is_within(value[1], 0, len(stand) - 1):
+        return False
+    return is_whole(value[2]) and value[2] in [each[0] for each in stand[value[1]][0]]
 
 
 def is_start(house, value):

@@ -35,9 +35,21 @@ class Line:
         for each in signs:
             self.sign(each)
 
+    def one_of(self, words):
+        """Reads one of these words, none of which is the beginning of another one."""
+        left, read = words, ""
+        while read not in left:
+            read = read + self.sign([word[len(read)] for word in left])
+            left = [word for word in left if word.startswith(read)]
+        return read
+
+    def is_end(self):
+        """Whether all signs are read."""
+        return self.at == len(self.text)
+
     def end(self):
         """Reads nothing: the line ends here."""
-        if self.at < len(self.text):
+        if not self.is_end():
             raise InvalidText(self.index, self.at)
 
     def further(self, first, signs, most):
@@ -78,3 +90,10 @@ class Line:
             sign = -1
         top, bottom = self.number()
         return sign * top, bottom
+
+
+def only_line(text):
+    """The one line that a text is; InvalidText for no string."""
+    if not isinstance(text, str):
+        raise InvalidText(None, None)
+    return Line(0, text)

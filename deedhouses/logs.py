@@ -1,8 +1,8 @@
 """Logs: what came of deeds, and the houses that a log allows."""
 
 from deedhouses.errors import InvalidLog, InvalidNumber, InvalidVague
-from deedhouses.houses import all_ways
-from deedhouses.ratios import NOUGHT, ONE, is_below, is_from_nought, is_tuple, is_whole, is_within, ratio
+from deedhouses.houses import all_ways, is_step
+from deedhouses.ratios import NOUGHT, ONE, is_below, is_from_nought, ratio
 from deedhouses.stretches import is_vague
 
 
@@ -72,19 +72,8 @@ def check_log(sketch, log):
     if not isinstance(log, tuple) or len(log) > 200:
         raise InvalidLog(None)
     for at, each in enumerate(log):
-        if not is_log_row(sketch, each):
+        if not is_step(sketch, each):
             raise InvalidLog(at)
-
-
-def is_log_row(sketch, value):
-    """Whether any value is a triple of a stand, a deed of it, and one of the deed's told stands."""
-    stands = sketch[2]
-    if not is_tuple(value, 3) or not is_within(value[0], 0, len(stands) - 1):
-        return False
-    stand = stands[value[0]]
-    if not is_within(value[1], 0, len(stand) - 1):
-        return False
-    return is_whole(value[2]) and value[2] in [to for to, _, _ in stand[value[1]][0]]
 
 
 def check_allowance(allowance):

@@ -15,7 +15,7 @@ class Outlook:
     def __init__(self, dim, many, row):
         house = dim[0]
         self.many = many
-        self.pays = house[1]
+        self.kinds = house[1]
         self.share = house[0]
         self.lots = [stands_of(dim, mark) for mark in range(count_marks(dim))]
         self.deeds = [count_deeds(dim, mark) for mark in range(count_marks(dim))]
@@ -45,7 +45,7 @@ class Outlook:
         What is got is counted in parts of one kind, whatever is left: each step that is left behind
         it makes them smaller by the share's and the chances' divisors.
         """
-        got = [0] * self.pays
+        got = [0] * self.kinds
         row = [0] * len(self.stands)
         for at, number in held:
             moves, gains = self.stands[at][deed]
@@ -67,13 +67,13 @@ class Outlook:
         wholes = scaled(weights, common_bottom(weights))
         found = [self.best_at(node, self.many, wholes) for node in self.nodes]
         bottom = self.bottom * self.unit * self.parts_of(self.many)
-        sums = [sum([pays[pay] for pays, _ in found]) for pay in range(self.pays)]
+        sums = [sum([pays[pay] for pays, _ in found]) for pay in range(self.kinds)]
         return tuple([ratio(each, bottom) for each in sums]), tuple([tree for _, tree in found])
 
     def best_at(self, node, many, weights):
         """What a best tree gets of each pay from the node on, and the tree; of like ones that of the first deed."""
         if node is None:
-            return [0] * self.pays, self.blank_tree(many)
+            return [0] * self.kinds, self.blank_tree(many)
         found = None
         for deed, (got, nodes) in enumerate(node):
             behind = [self.best_at(each, many - 1, weights) for each in nodes]

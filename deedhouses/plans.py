@@ -8,6 +8,11 @@ from deedhouses.ratios import NOUGHT, ONE, are_odds, is_tuple, is_within
 def is_still(house, value):
     """Whether any value is a still plan of the house."""
     check_house(house)
+    return fits_still(house, value)
+
+
+def fits_still(house, value):
+    """Whether any value is a still plan of what is known to be a house."""
     stands = house[2]
     if not is_tuple(value, len(stands)):
         return False

@@ -1,6 +1,6 @@
 """Shares: how often each deed is done, each time counted by the share."""
 
-from deedhouses.chains import chain_counts, minded_chain, minded_start, still_chain
+from deedhouses.chains import counts_in, minded_chain, minded_start, still_chain
 from deedhouses.errors import InvalidShares
 from deedhouses.houses import check_house, check_start
 from deedhouses.plans import check_minded, check_still, plain_odds
@@ -46,7 +46,12 @@ def shares_of(house, start, still):
 
 def shares_from(house, start, still):
     """The still plan's shares, where all arguments are known to be right."""
-    counts = chain_counts(still_chain(house, still), start)
+    return still_counts(house, start, still, None)
+
+
+def still_counts(house, start, still, many):
+    """The part of the still plan's shares that so many steps make; all of them for None."""
+    counts = counts_in(still_chain(house, still), start, many)
     return tuple([tuple([times(count, odd) for odd in odds]) for count, odds in zip(counts, still)])
 
 
@@ -55,8 +60,13 @@ def minded_shares(house, start, minded):
     check_house(house)
     check_start(house, start)
     check_minded(house, minded)
+    return minded_counts(house, start, minded, None)
+
+
+def minded_counts(house, start, minded, many):
+    """The part of the minded plan's shares that so many steps make; all of them for None."""
     minds, rows, _ = minded
-    counts = chain_counts(minded_chain(house, minded), minded_start(start, minds))
+    counts = counts_in(minded_chain(house, minded), minded_start(start, minds), many)
     shares = []
     for at, many_odds in enumerate(rows):
         own = counts[at * minds:at * minds + minds]
@@ -69,6 +79,11 @@ def pays_of_shares(house, start, shares):
     check_house(house)
     check_start(house, start)
     check_shares(house, start, shares)
+    return pays_by(house, shares)
+
+
+def pays_by(house, shares):
+    """The sum of any rows, a number for each deed, times the gains."""
     numbers = [number for row in shares for number in row]
     gains = [deed[1] for stand in house[2] for deed in stand]
     return tuple([dot(numbers, column(gains, pay)) for pay in range(house[1])])

@@ -73,6 +73,22 @@ STAGES = {
     "language": (
         "is_named(value)", "read_house(text)", "house_text(named)", "named_of(house)", "reordered(named, order)",
     ),
+    "wordings": (
+        "read_start(named, text)", "start_text(named, start)", "read_bounds(named, text)", "bounds_text(named, bounds)",
+        "read_plan(named, text)", "plan_text(named, still)",
+    ),
+    "players": (
+        "is_told(house, value)", "is_player(house, value)", "player_pays(house, start, player)",
+        "player_shares(house, start, player)", "player_steps(house, start, player, many)",
+    ),
+    "runs": (
+        "run(house, start, player, dice)", "way_chance(house, start, player, way)", "box_of(house, start, player, way)",
+        "way_pays(house, way)", "count_ways(house, start, player, many)", "ways(house, start, player, many)",
+    ),
+    "misses": (
+        "sketch_of(house)", "mean_counts(house, start, player, many)", "miss_bound(house, start, player, many, allowance)",
+        "miss_chance(house, start, player, many, allowance)",
+    ),
 }
 
 VAGUE = (HALF, 2, (
@@ -163,6 +179,17 @@ WRONG.update({
         ((2, 0), 0), ((0, 0), 1), ((1, 1), 1), ((True, 0), 0), ((1, False), 1), ((-1, 0), 0), ((1, None), 1), (("0", 1), 0),
     ]),
 })
+WRONG.update({
+    "player": ("InvalidPlayer", given(*SOME, TOSSED, ("told", TOSSED), ["still", TOSSED], ("still", TOSSED, 0), (b"still", TOSSED))),
+    "dice": ("InvalidDice", [(value, None) for value in [None, True, 7, "ab", (), [], {}, (NIL, NIL), (NIL,) * 123, [NIL]]] + [
+        ((ONE,), 0), ((NIL, HALF, (3, 2)), 2), ((NIL, (-1, 2), ONE), 1), ((0, NIL, NIL), 0), ((NIL, NIL, (2, 4)), 2), ((1, 2, 3), 0),
+        ((NIL, NIL, (False, 1)), 2), ((NIL, None, ONE), 1), (((1, 0), NIL, NIL), 0), (([0, 1],), 0),
+    ]),
+    "way": ("InvalidWay", [(value, None) for value in [None, True, 7, "ab", [], {}, ((0, 0, 0),) * 61, [(0, 0, 0)]]] + [
+        ((None,), 0), (((0, 0, 0), (1, 0, 0)), 1), (((0, 1, 1),), 0), (((0, 0, 1), (1, 1, 0)), 1), (((0, False, 0),), 0), ((0, 0, 0), 0),
+        (((0, 0, 0), (0, 0, 1), [1, 0, 0]), 2), (((0, 0, 0, 0),), 0), (((2, 0, 0),), 0),
+    ]),
+})
 # What is told of a parameter in one file or of one function alone.
 STEPS = [*NUMBERS, 5, 31, 61]
 OTHERS = {
@@ -180,6 +207,12 @@ OTHERS = {
     ("language", "text"): ("InvalidText", [(value, (None, None)) for value in SOME if value != "ab"] + [
         ("ab", (0, 0)), (TEXT[:-1], (5, 27)),
     ]),
+    ("wordings", "text"): ("InvalidText", [(value, (None, None)) for value in SOME if value != "ab"] + [
+        ("", (0, 0)), ("-", (0, 0)), (" none", (0, 0)), ("Shop: 1 work", (0, 0)),
+    ]),
+    ("ways", "many"): ("InvalidNumber", given(None, True, -1, 21, "3", (3,), (3, 1), [], 10 ** 399)),
+    ("miss_chance", "many"): ("InvalidNumber", given(None, True, -1, 21, "3", (3,), (3, 1), [], 10 ** 399)),
+    ("misses", "allowance"): ("InvalidNumber", given(*CHANCES, (-1, 2), (-1, 1), NIL, (0, 2))),
 }
 RIGHT = {
     "house": SHOP, "start": (ONE, NIL), "still": TOSSED, "choice": (1, 0), "weights": (ONE, (-1, 2)), "worths": (TWO, HALF),
@@ -189,22 +222,30 @@ RIGHT = {
     "deed": 0, "source": 0, "target": 1, "log": ((0, 0, 0), (0, 0, 1), (1, 0, 0), (0, 0, 0)), "allowance": HALF,
     "stretches": VAGUE[2][0][0][0], "is_greatest": True, "dim": (SHOP, (0, 1)), "mark": 0, "hold": (TWO, NIL), "tree": TREE,
     "lookout": LOOKOUT, "rows": ((ONE, NIL), (HALF, HALF)), "row": (HALF, HALF), "named": NAMED, "order": (1, 0), "text": TEXT,
+    "player": ("told", ((((0,), TOSSED[0]), ((0, 0, 1), (ONE,))), TOSSED)), "dice": (NIL, HALF, QUARTER), "way": ((0, 0, 1), (1, 0, 0)),
 }
 OTHER_RIGHTS = {
     ("moves", "choice"): (0, 0), ("sights", "many"): 1, ("sightbest", "many"): 1, ("sightbounds", "many"): 1,
-    ("sightbounds", "mix"): ((ONE, LOOKOUT),),
+    ("sightbounds", "mix"): ((ONE, LOOKOUT),), ("read_start", "text"): "1/2 shop, 1/2 home",
+    ("read_bounds", "text"): "calm at least 1", ("read_plan", "text"): "shop: 1/2 work, 1/2 rest",
 }
 # Parameters that any value may be passed for: the answer is True or False.
 WHATEVER = {("fits", "house")}
 
 
+def own_of(told, name, parameter, other):
+    """What is told of a parameter of the one function, or of all those of its file, or of all functions."""
+    file, call = name.split(".")
+    return told.get((call, parameter)) or told.get((file, parameter)) or other[parameter]
+
+
 def wrong_of(name, parameter):
-    return OTHERS.get((name.split(".")[0], parameter)) or WRONG[parameter]
+    return own_of(OTHERS, name, parameter, WRONG)
 
 
 def right_of(name, parameters):
     """Right arguments of a function."""
-    return {each: OTHER_RIGHTS.get((name.split(".")[0], each), RIGHT[each]) for each in parameters}
+    return {each: own_of(OTHER_RIGHTS, name, each, RIGHT) for each in parameters}
 
 
 def is_whatever(name, parameter):
@@ -277,7 +318,8 @@ class ArgumentsTest(unittest.TestCase):
                         call(**arguments)
                     except errors.HouseError as error:
                         self.assertFalse(is_whatever(name, parameter), (name, value))
-                        told = {wrong_of(name, parameter)[0], *LATER.get(parameter, ())}
+                        more = LATER.get((name.split(".")[0], parameter), LATER.get(parameter, ()))
+                        told = {wrong_of(name, parameter)[0], *more}
                         self.assertIn(type(error).__name__, told, (name, value))
                     self.assertEqual(arguments, before)
 
@@ -332,6 +374,8 @@ LATER = {
     "start": {"InvalidShares"}, "stretches": {"InvalidWorths"}, "rows": {"InvalidRow"},
     "mark": {"InvalidHold", "InvalidNumber", "InvalidTree"},
     "many": {"InvalidTree", "InvalidLookout", "InvalidMix"}, "weights": {"NotBest"}, "choice": {"NotBest", "InvalidNumber"},
+    ("runs", "many"): {"TooMany"}, ("misses", "many"): {"TooMany"}, ("wordings", "bounds"): {"InvalidNumber"},
+    ("wordings", "start"): {"InvalidNumber"}, ("wordings", "still"): {"InvalidNumber"},
     "stand": {"InvalidNumber"}, "text": {"TwiceNamed", "UnknownName", "NoSum", "InvalidNumber"},
 }
 

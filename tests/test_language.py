@@ -17,7 +17,7 @@ METHODS = set(
 )
 NODES = (
     ast.Global, ast.AsyncFunctionDef, ast.Await, ast.Import, ast.Div, ast.Lambda, ast.SetComp, ast.Set, ast.GeneratorExp,
-    ast.NamedExpr, ast.Try, ast.With, ast.Match, ast.Yield, ast.YieldFrom, ast.Assert, ast.Delete, ast.Nonlocal,
+    ast.NamedExpr, ast.Try, ast.Match, ast.Yield, ast.YieldFrom, ast.Assert, ast.Delete, ast.Nonlocal,
     ast.JoinedStr, ast.AnnAssign,
 )
 BARRED = set(
@@ -48,6 +48,10 @@ def bound_names(function):
     return set(names)
 
 
+def is_double(name):
+    return name.startswith("__")
+
+
 class LanguageTest(unittest.TestCase):
     def test_folder(self):
         names = [each.name for each in FOLDER.iterdir() if each.name != "__pycache__"]
@@ -67,7 +71,7 @@ class LanguageTest(unittest.TestCase):
             for node in ast.walk(ast.parse(text)):
                 if isinstance(node, ast.FunctionDef):
                     self.assertLessEqual(node.end_lineno - node.lineno + 1, 40, (file, node.name))
-                    self.assertIsNotNone(ast.get_docstring(node) or node.name == "__init__" or None, (file, node.name))
+                    self.assertIsNotNone(ast.get_docstring(node) or is_double(node.name) or None, (file, node.name))
 
     def test_statements_and_values(self):
         for file in files():
@@ -77,8 +81,10 @@ class LanguageTest(unittest.TestCase):
                     self.assertNotIsInstance(node.value, (float, complex), file)
                     if isinstance(node.value, str):
                         self.assertNotIn("%", node.value, file)
+                if isinstance(node, ast.With):
+                    self.assertIsInstance(node.items[0].context_expr, ast.Call)
                 if isinstance(node, ast.FunctionDef):
-                    self.assertEqual(node.decorator_list, [], file)
+                    self.assertLessEqual({ast.unparse(each) for each in node.decorator_list}, {"property"}, file)
                     self.assertIsNone(node.args.vararg or node.args.kwarg, file)
                     self.assertEqual(node.args.defaults, [], file)
                 if isinstance(node, ast.Call):
@@ -168,13 +174,28 @@ class LanguageTest(unittest.TestCase):
             node for file in files() for node in ast.parse(file.read_text()).body if isinstance(node, ast.ClassDef)
         ]
         methods = {each.name for node in classes for each in node.body if isinstance(each, ast.FunctionDef)}
-        self.assertFalse(methods & {name for kind in (str, list, dict, tuple, set, int, bytes) for name in dir(kind)} - {"__init__"})
+        methods = {name for name in methods if not is_double(name)}
+        self.assertFalse(methods & {name for kind in (str, list, dict, tuple, set, int, bytes) for name in dir(kind)})
+        stored = {
+            node.attr for file in files() for node in ast.walk(ast.parse(file.read_text()))
+            if isinstance(node, ast.Attribute) and isinstance(node.ctx, ast.Store)
+        }
+        self.assertFalse(methods & stored)
         for file in files():
             for node in ast.walk(ast.parse(file.read_text())):
                 if isinstance(node, ast.Name) and hasattr(builtins, node.id):
                     self.assertIn(node.id, BUILTINS, file)
                 if isinstance(node, ast.Call) and isinstance(node.func, ast.Attribute):
                     self.assertIn(node.func.attr, METHODS | methods, file)
+
+    def test_what_ends_a_with_statement(self):
+        for file in files():
+            for node in ast.walk(ast.parse(file.read_text())):
+                if isinstance(node, ast.FunctionDef) and is_double(node.name):
+                    self.assertIn(node.name, ("__init__", "__len__", "__bool__", "__enter__", "__exit__"))
+                    if node.name == "__exit__":
+                        for inner in ast.walk(node):
+                            self.assertNotIsInstance(inner, (ast.Call, ast.Return, ast.BinOp, ast.Subscript, ast.For), file)
 
     def test_nothing_iterated_is_kept(self):
         kept = {"zip", "enumerate", "reversed", "map", "iter"}
