@@ -23,6 +23,11 @@ def gap_rows(house, weights, worths):
     return tuple(rows)
 
 
+def is_bettered(house, weights, worths):
+    """Whether some deed betters the worths: its gap is below 0."""
+    return any([is_below(gap, NOUGHT) for row in gap_rows(house, weights, worths) for gap in row])
+
+
 def deed_worth(share, weights, worths, deed):
     """What a deed brings of the weighted pay if the worths are what comes behind it."""
     chances, gains = deed

@@ -1,7 +1,7 @@
 """Several pays with bounds: plans that keep them, and reasons that none does."""
 
 from deedhouses.balances import deed_columns, deed_rows
-from deedhouses.best import gap_rows
+from deedhouses.best import is_bettered
 from deedhouses.errors import InvalidBounds, TooMany
 from deedhouses.houses import check_house, check_pay, check_start
 from deedhouses.plans import check_still, plain_plan
@@ -30,15 +30,17 @@ def is_reason(house, start, bounds, value):
     check_house(house)
     check_start(house, start)
     check_bounds(house, bounds)
+    return fits_reason(house, start, bounds, value)
+
+
+def fits_reason(house, start, bounds, value):
+    """Whether any value is a reason, where the other arguments are known to be right."""
     if not is_tuple(value, 2) or not is_row(value[0], house[1]) or not is_row(value[1], len(house[2])):
         return False
     weights, worths = value
     if not all([is_weight(weight, bound) for weight, bound in zip(weights, bounds)]):
         return False
-    gaps = [gap for row in gap_rows(house, weights, worths) for gap in row]
-    if any([is_below(gap, NOUGHT) for gap in gaps]):
-        return False
-    return is_below(dot(start, worths), dot(weights, numbers_of(bounds)))
+    return not is_bettered(house, weights, worths) and is_below(dot(start, worths), dot(weights, numbers_of(bounds)))
 
 
 def is_weight(weight, bound):
@@ -152,10 +154,20 @@ def choice_at(house, code):
     return tuple(choice)
 
 
+def are_bounds(house, value):
+    """Whether any value is bounds of what is known to be a house."""
+    return is_tuple(value, house[1]) and all([is_bound(each) for each in value])
+
+
+def is_bound(value):
+    """Whether any value is a bound, or None."""
+    return value is None or is_fraction(value)
+
+
 def check_bounds(house, bounds):
     """Raises InvalidBounds for no row of a fraction or None for each pay."""
     if not is_tuple(bounds, house[1]):
         raise InvalidBounds(None)
     for at, bound in enumerate(bounds):
-        if bound is not None and not is_fraction(bound):
+        if not is_bound(bound):
             raise InvalidBounds(at)

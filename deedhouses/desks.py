@@ -2,7 +2,7 @@
 
 from deedhouses.bounds import are_kept, check_bounds, kept_or_not
 from deedhouses.errors import Broken, CannotKeep, InvalidNumber, NothingToUndo
-from deedhouses.houses import check_deed, check_pay, check_stand, check_start
+from deedhouses.houses import check_deed, check_pay, check_stand, check_start, with_gain
 from deedhouses.language import check_named
 from deedhouses.plans import check_still, plain_odds, plain_plan
 from deedhouses.ratios import is_fraction
@@ -129,13 +129,3 @@ class Trial:
         desk = self.desk
         if kind is not None:
             desk.state = self.state
-
-
-def with_gain(house, stand, deed, pay, number):
-    """The house in which the number stands in the place of a deed's gain."""
-    share, pays, stands = house
-    deeds = stands[stand]
-    chances, gains = deeds[deed]
-    changed = chances, gains[:pay] + (number,) + gains[pay + 1:]
-    own = deeds[:deed] + (changed,) + deeds[deed + 1:]
-    return share, pays, stands[:stand] + (own,) + stands[stand + 1:]

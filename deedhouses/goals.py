@@ -10,6 +10,11 @@ from deedhouses.ratios import NOUGHT, ONE, dot, is_below, is_within, least_index
 def is_goal_row(house, value):
     """Whether any value is goals of the house."""
     check_house(house)
+    return fits_goals(house, value)
+
+
+def fits_goals(house, value):
+    """Whether any value is goals of what is known to be a house."""
     if not isinstance(value, tuple) or len(value) == 0:
         return False
     return wrong_goal(house, value) is None
@@ -134,6 +139,11 @@ def ranks_of(house, goals):
     """For each stand the least number of steps in which each plan may have come to where rank 0 is."""
     check_house(house)
     check_goals(house, goals)
+    return ranks_from(house, goals)
+
+
+def ranks_from(house, goals):
+    """The ranks, where both arguments are known to be right."""
     stands = house[2]
     reached = list(goals) + never_stands(house, goals)
     ranks = [0] * len(stands)

@@ -81,6 +81,16 @@ def weighed(frame, weights):
     return share, 1, tuple(made)
 
 
+def with_gain(house, stand, deed, pay, number):
+    """The house in which the number stands in the place of a deed's gain."""
+    share, pays, stands = house
+    deeds = stands[stand]
+    chances, gains = deeds[deed]
+    changed = chances, gains[:pay] + (number,) + gains[pay + 1:]
+    own = deeds[:deed] + (changed,) + deeds[deed + 1:]
+    return share, pays, stands[:stand] + (own,) + stands[stand + 1:]
+
+
 def mean_behind(chances, numbers):
     """The mean, by CHANCES, of the stands' numbers."""
     return dot([chance for _, chance in chances], [numbers[to] for to, _ in chances])

@@ -1,11 +1,11 @@
 """How far a number of a house may move before a best choice is best no more."""
 
-from deedhouses.best import choice_worths, gap_rows
+from deedhouses.best import choice_worths, gap_rows, is_bettered
 from deedhouses.chains import chain_worths, still_chain
 from deedhouses.errors import InvalidNumber, NotBest
-from deedhouses.houses import check_deed, check_house, check_stand, check_weights
+from deedhouses.houses import check_deed, check_house, check_stand, check_weights, weighed, with_gain
 from deedhouses.plans import check_choice, plain_plan
-from deedhouses.ratios import NOUGHT, ONE, column, is_below, is_whole, minus, opposites, over, times
+from deedhouses.ratios import NOUGHT, ONE, column, is_below, is_whole, minus, opposites, over, plus, times
 
 
 def gain_room(house, weights, choice, stand, deed):
@@ -49,10 +49,16 @@ def best_gaps(house, weights, choice):
     check_weights(house, weights)
     check_choice(house, choice)
     worths = choice_worths(house, weights, choice)
-    gaps = gap_rows(house, weights, worths)
-    if any([is_below(gap, NOUGHT) for row in gaps for gap in row]):
+    if is_bettered(house, weights, worths):
         raise NotBest()
-    return worths, gaps
+    return worths, gap_rows(house, weights, worths)
+
+
+def raised(house, weights, stand, deed, number):
+    """The house of the one pay that the weights make, in which the number comes to the deed's gain."""
+    narrow = weighed(house, weights)
+    gain = narrow[2][stand][deed][1][0]
+    return with_gain(narrow, stand, deed, 0, plus(gain, number))
 
 
 def counts_behind(house, choice, stand):

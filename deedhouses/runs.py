@@ -100,6 +100,12 @@ def pays_on(house, way):
     return tuple([dot(counts, [each[pay] for each in gains]) for pay in range(pays)])
 
 
+def mean_on(house, pairs):
+    """The mean of the ways' pays, of pairs of a way and its chance."""
+    rows = [pays_on(house, way) for way, _ in pairs]
+    return tuple([dot([chance for _, chance in pairs], [row[pay] for row in rows]) for pay in range(house[1])])
+
+
 def count_ways(house, start, player, many):
     """How many ways of so many steps have a chance above 0."""
     check_player(house, start, player)

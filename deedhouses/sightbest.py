@@ -33,36 +33,65 @@ def rows_left(dim, weights, many):
     check_dim(dim)
     check_weights(dim[0], weights)
     check_number(many, 0, 4)
-    lists = [[((NOUGHT,) * len(stands_of(dim, mark)), ())] for mark in range(count_marks(dim))]
+    return tuple([tuple(pairs) for pairs in left_stages(dim, weights, many)[-1]])
+
+
+def left_stages(dim, weights, many):
+    """For 0 up to so many steps the lists of the rows left and their trees, one for each mark."""
+    stages = [[[((NOUGHT,) * len(stands_of(dim, mark)), ())] for mark in range(count_marks(dim))]]
     for _ in range(many):
-        lists = lists_ahead(dim, weights, lists)
-    return tuple([tuple(pairs) for pairs in lists])
+        stages.append(lists_ahead(dim, weights, stages[-1]))
+    return stages
 
 
 def lists_ahead(dim, weights, lists):
     """The lists of rows left for one step more, made of these; TooMany for more than 300 sums."""
+    many = first_too_many(dim, lists)
+    if many is not None:
+        raise TooMany(many)
+    return [left_pairs(tree_sums(dim, weights, mark, lists)) for mark in range(len(lists))]
+
+
+def first_too_many(dim, lists):
+    """Of the marks' numbers of sums of the lists the first one above 300; None."""
     picks = 1
-    for pairs in lists:
-        picks = picks * len(pairs)
+    for rows in lists:
+        picks = picks * len(rows)
     for mark in range(len(lists)):
         many = picks * count_deeds(dim, mark)
         if many > 300:
-            raise TooMany(many)
-    return [left_pairs(tree_sums(dim, weights, mark, lists)) for mark in range(len(lists))]
+            return many
+    return None
+
+
+def all_picks(lists):
+    """One of each list, in all ways: the last list's turn fastest."""
+    picks = [()]
+    for rows in lists:
+        picks = [pick + (row,) for pick in picks for row in rows]
+    return picks
+
+
+def deed_sums(dim, weights, mark, lists):
+    """The row of each sum of a deed of the mark and of rows behind it, one for each mark, in order."""
+    picks = all_picks(lists)
+    return [sum_row(dim, weights, mark, deed, pick) for deed in range(count_deeds(dim, mark)) for pick in picks]
 
 
 def tree_sums(dim, weights, mark, lists):
     """The rows of all sums of a deed of the mark and rows left behind it, each with a tree that has it."""
-    picks = [()]
-    for pairs in lists:
-        picks = [pick + (pair,) for pick in picks for pair in pairs]
+    picks = all_picks([[tree for _, tree in pairs] for pairs in lists])
+    trees = [(deed, pick) for deed in range(count_deeds(dim, mark)) for pick in picks]
     sums = {}
-    for deed in range(count_deeds(dim, mark)):
-        for pick in picks:
-            row = sum_row(dim, weights, mark, deed, [behind for behind, _ in pick])
-            if row not in sums:
-                sums[row] = deed, tuple([tree for _, tree in pick])
+    for row, tree in zip(deed_sums(dim, weights, mark, rows_of(lists)), trees):
+        if row not in sums:
+            sums[row] = tree
     return sums
+
+
+def rows_of(lists):
+    """The lists of rows, without their trees."""
+    return [[row for row, _ in pairs] for pairs in lists]
 
 
 def left_pairs(sums):
@@ -119,10 +148,28 @@ def parting(rows, row):
     return "above", tuple([over(price, whole) for price in prices])
 
 
-def check_rows(rows):
-    """Raises InvalidRows for no tuple of 1 to 60 rows of 1 to 8 fractions, all of one length."""
-    if not isinstance(rows, tuple) or not is_within(len(rows), 1, 60):
-        raise InvalidRows(None)
+def are_rows(value):
+    """Whether any value is a tuple of 1 to 60 rows of 1 to 8 fractions, all of one length."""
+    return is_lot(value) and wrong_row(value) is None
+
+
+def is_lot(value):
+    """Whether any value is a tuple of 1 to 60 elements."""
+    return isinstance(value, tuple) and is_within(len(value), 1, 60)
+
+
+def wrong_row(rows):
+    """The index of the first element that is no row of 1 to 8 fractions, as many as the first one has; None."""
     for at, row in enumerate(rows):
         if not isinstance(row, tuple) or not is_within(len(row), 1, 8) or not is_row(row, len(rows[0])):
-            raise InvalidRows(at)
+            return at
+    return None
+
+
+def check_rows(rows):
+    """Raises InvalidRows for no tuple of rows as told."""
+    if not is_lot(rows):
+        raise InvalidRows(None)
+    at = wrong_row(rows)
+    if at is not None:
+        raise InvalidRows(at)

@@ -36,6 +36,11 @@ def is_stretch(low, high):
 def fits(vague, house):
     """Whether any value, HOUSE, is a house that fits the vague one."""
     check_vague(vague)
+    return does_fit(vague, house)
+
+
+def does_fit(vague, house):
+    """Whether any value, HOUSE, is a house that fits what is known to be a vague one."""
     if not is_house(house) or house[:2] != vague[:2] or len(house[2]) != len(vague[2]):
         return False
     return all([does_stand_fit(told, stand) for told, stand in zip(vague[2], house[2])])

@@ -89,6 +89,23 @@ STAGES = {
         "sketch_of(house)", "mean_counts(house, start, player, many)", "miss_bound(house, start, player, many, allowance)",
         "miss_chance(house, start, player, many, allowance)",
     ),
+    "certificates": (
+        "certify_best(house, weights)", "certify_keep(house, start, bounds)", "certify_most(house, start, bounds, pay)",
+        "certify_place(house, start, pair)", "certify_coming(house, goals, stand, number)",
+        "certify_always(house, goals, stand, number)",
+    ),
+    "certifyvague": (
+        "certify_safe(vague, weights, start, number)", "certify_surely(vague, start, bounds, still)",
+        "certify_change(vague, weights, choice, stand, deed)", "certify_move(house, weights, choice, stand, deed, number)",
+    ),
+    "certifysights": (
+        "certify_sight_best(dim, start, weights, many)", "certify_parted(rows, row)", "certify_rows_left(dim, weights, many)",
+        "certify_sight_keep(dim, start, bounds, many)",
+    ),
+    "certifyruns": (
+        "certify_ways(house, start, player, many)", "certify_missed(house, start, player, many, allowance)",
+        "certify_same(house, start, player)",
+    ),
 }
 
 VAGUE = (HALF, 2, (
@@ -180,6 +197,7 @@ WRONG.update({
     ]),
 })
 WRONG.update({
+    "number": ("InvalidNumber", given(*CHANCES)),
     "player": ("InvalidPlayer", given(*SOME, TOSSED, ("told", TOSSED), ["still", TOSSED], ("still", TOSSED, 0), (b"still", TOSSED))),
     "dice": ("InvalidDice", [(value, None) for value in [None, True, 7, "ab", (), [], {}, (NIL, NIL), (NIL,) * 123, [NIL]]] + [
         ((ONE,), 0), ((NIL, HALF, (3, 2)), 2), ((NIL, (-1, 2), ONE), 1), ((0, NIL, NIL), 0), ((NIL, NIL, (2, 4)), 2), ((1, 2, 3), 0),
@@ -212,6 +230,10 @@ OTHERS = {
     ]),
     ("ways", "many"): ("InvalidNumber", given(None, True, -1, 21, "3", (3,), (3, 1), [], 10 ** 399)),
     ("miss_chance", "many"): ("InvalidNumber", given(None, True, -1, 21, "3", (3,), (3, 1), [], 10 ** 399)),
+    ("certify_ways", "many"): ("InvalidNumber", given(None, True, -1, 21, "3", (3,), (3, 1), [], 10 ** 399)),
+    ("certifysights", "many"): ("InvalidNumber", [(value, "given") for value in STEPS]),
+    ("certify_change", "deed"): ("InvalidNumber", given(*NUMBERS, 2, 1)),
+    ("certify_missed", "allowance"): ("InvalidNumber", given(*CHANCES, (-1, 2), (-1, 1), NIL, (0, 2))),
     ("misses", "allowance"): ("InvalidNumber", given(*CHANCES, (-1, 2), (-1, 1), NIL, (0, 2))),
 }
 RIGHT = {
@@ -223,11 +245,12 @@ RIGHT = {
     "stretches": VAGUE[2][0][0][0], "is_greatest": True, "dim": (SHOP, (0, 1)), "mark": 0, "hold": (TWO, NIL), "tree": TREE,
     "lookout": LOOKOUT, "rows": ((ONE, NIL), (HALF, HALF)), "row": (HALF, HALF), "named": NAMED, "order": (1, 0), "text": TEXT,
     "player": ("told", ((((0,), TOSSED[0]), ((0, 0, 1), (ONE,))), TOSSED)), "dice": (NIL, HALF, QUARTER), "way": ((0, 0, 1), (1, 0, 0)),
+    "number": (1, 9),
 }
 OTHER_RIGHTS = {
     ("moves", "choice"): (0, 0), ("sights", "many"): 1, ("sightbest", "many"): 1, ("sightbounds", "many"): 1,
     ("sightbounds", "mix"): ((ONE, LOOKOUT),), ("read_start", "text"): "1/2 shop, 1/2 home",
-    ("read_bounds", "text"): "calm at least 1", ("read_plan", "text"): "shop: 1/2 work, 1/2 rest",
+    ("certify_move", "choice"): (0, 0), ("certifysights", "many"): 1, ("read_bounds", "text"): "calm at least 1", ("read_plan", "text"): "shop: 1/2 work, 1/2 rest",
 }
 # Parameters that any value may be passed for: the answer is True or False.
 WHATEVER = {("fits", "house")}
@@ -374,7 +397,8 @@ LATER = {
     "start": {"InvalidShares"}, "stretches": {"InvalidWorths"}, "rows": {"InvalidRow"},
     "mark": {"InvalidHold", "InvalidNumber", "InvalidTree"},
     "many": {"InvalidTree", "InvalidLookout", "InvalidMix"}, "weights": {"NotBest"}, "choice": {"NotBest", "InvalidNumber"},
-    ("runs", "many"): {"TooMany"}, ("misses", "many"): {"TooMany"}, ("wordings", "bounds"): {"InvalidNumber"},
+    ("runs", "many"): {"TooMany"}, ("misses", "many"): {"TooMany"}, ("certifyruns", "many"): {"TooMany"},
+    ("wordings", "bounds"): {"InvalidNumber"},
     ("wordings", "start"): {"InvalidNumber"}, ("wordings", "still"): {"InvalidNumber"},
     "stand": {"InvalidNumber"}, "text": {"TwiceNamed", "UnknownName", "NoSum", "InvalidNumber"},
 }

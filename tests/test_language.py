@@ -17,7 +17,7 @@ METHODS = set(
 )
 NODES = (
     ast.Global, ast.AsyncFunctionDef, ast.Await, ast.Import, ast.Div, ast.Lambda, ast.SetComp, ast.Set, ast.GeneratorExp,
-    ast.NamedExpr, ast.Try, ast.Match, ast.Yield, ast.YieldFrom, ast.Assert, ast.Delete, ast.Nonlocal,
+    ast.NamedExpr, ast.Match, ast.Yield, ast.YieldFrom, ast.Assert, ast.Delete, ast.Nonlocal,
     ast.JoinedStr, ast.AnnAssign,
 )
 BARRED = set(
@@ -81,6 +81,9 @@ class LanguageTest(unittest.TestCase):
                     self.assertNotIsInstance(node.value, (float, complex), file)
                     if isinstance(node.value, str):
                         self.assertNotIn("%", node.value, file)
+                if isinstance(node, ast.Try):
+                    self.assertEqual([ast.unparse(each.type) for each in node.handlers], ["HouseError"], file)
+                    self.assertFalse(node.finalbody or node.orelse, file)
                 if isinstance(node, ast.With):
                     self.assertIsInstance(node.items[0].context_expr, ast.Call)
                 if isinstance(node, ast.FunctionDef):
@@ -99,11 +102,17 @@ class LanguageTest(unittest.TestCase):
 
     def test_module_level(self):
         for file in files():
-            for node in ast.parse(file.read_text()).body:
+            tree = ast.parse(file.read_text())
+            for node in tree.body:
                 self.assertIsInstance(node, (ast.Expr, ast.ImportFrom, ast.FunctionDef, ast.ClassDef, ast.Assign), file)
                 if isinstance(node, ast.Assign):
-                    ast.literal_eval(node.value)
                     self.assertEqual(len(targets(node)), 1)
+                    if isinstance(node.value, ast.Dict):
+                        # A table of functions that are defined above it.
+                        above = {each.name for each in tree.body if isinstance(each, ast.FunctionDef) and each.lineno < node.lineno}
+                        self.assertLessEqual({ast.unparse(each) for each in node.value.values}, above, file)
+                    else:
+                        ast.literal_eval(node.value)
                 if isinstance(node, ast.ClassDef):
                     self.assertLessEqual(len(node.bases), 1)
 
