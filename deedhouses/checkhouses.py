@@ -154,7 +154,7 @@ def judge_comes_not(parts, paper):
         return False
     for at, worth in enumerate(paper):
         floors = [ONE] if at in goals else [NOUGHT] + means_behind(house, at, paper)
-        if is_below(worth, NOUGHT) or any([is_below(worth, floor) for floor in floors]):
+        if any([is_below(worth, floor) for floor in floors]):
             return False
     return True
 

@@ -11,7 +11,7 @@ from deedhouses.certificates import (
     certify_always, certify_best, certify_coming, certify_keep, certify_most, certify_place,
 )
 from deedhouses.certifyruns import certify_missed, certify_same, certify_ways
-from deedhouses.certifysights import certify_parted, certify_rows_left, certify_sight_best, certify_sight_keep
+from deedhouses.certifysights import certify_parted, certify_rows_left, certify_sight_best, certify_sight_keep, stage_of
 from deedhouses.certifyvague import certify_change, certify_move, certify_safe, certify_surely
 from deedhouses.checker import accepts
 from deedhouses.errors import InvalidGoals, InvalidHouse, InvalidNumber, NotBest, NotTwo, TooMany
@@ -21,7 +21,7 @@ from deedhouses.moves import gain_room
 from deedhouses.players import player_pays, player_steps
 from deedhouses.polygons import corners
 from deedhouses.runs import count_ways, ways
-from deedhouses.sightbest import best_lookout, rows_left
+from deedhouses.sightbest import best_lookout, left_pairs, rows_left, rows_of, tree_sums
 from deedhouses.sightbounds import sight_keep
 from deedhouses.stretches import corner_houses
 from deedhouses.worst import safest, worst_worths
@@ -208,24 +208,23 @@ class CertificateTest(unittest.TestCase):
                     self.assertEqual(tuple(each[0] for each in paper[-1]), claim[4])
 
     def test_rows_left_where_there_are_too_many(self):
-        stands = tuple(tuple((((at, HALF), ((at + 1) % 4, HALF)) if at < 3 else ((0, HALF), (3, HALF)), (pair(own),))
-                             for own in (at * at, 3 * at - at * at, 5 - at, 1)) for at in range(4))
-        for marks in ((0, 0, 0, 0), (0, 0, 1, 1), (0, 1, 2, 2)):
-            dim = ((9, 10), 1, stands), marks
-            found = None
+        for seed, stands, marks, steps, sums in ((202, 8, 3, 2, 324), (98, 6, 3, 3, 400), (9, 8, 3, 3, 528)):
+            dim = draw_dim(seed, stands, 4, marks, 1, share=(9, 10))
             for many in range(5):
-                try:
+                if many <= steps:
                     claim, paper = self.certified(certify_rows_left, dim, (ONE,), many)
-                    last = claim, paper
-                    self.assertIsNone(found)
-                except TooMany as error:
-                    found = error.given
-                    with self.assertRaises(TooMany) as caught:
-                        rows_left(dim, (ONE,), many)
-                    self.assertEqual(caught.exception.given, found)
-                    self.assertGreater(found, 300)
-                    more = last[1] + last[1][-1:]
-                    self.assertIs(accepts((*last[0][:3], many, last[0][4]), more), False)
+                else:
+                    for call in (certify_rows_left, rows_left):
+                        with self.assertRaises(TooMany) as caught:
+                            call(dim, (ONE,), many)
+                        self.assertEqual(caught.exception.given, sums)
+            # A paper that is right but for how many sums there are is none.
+            ahead = [list(rows) for rows in claim[4]]
+            lists = [left_pairs(tree_sums(dim, (ONE,), mark, [[(own, ()) for own in rows] for rows in ahead])) for mark in range(marks)]
+            told = rows_of(lists)
+            more = (*claim[:3], steps + 1, tuple(tuple(rows) for rows in told))
+            self.assertIs(accepts(more, paper + (stage_of(dim, (ONE,), ahead, told),)), False)
+            self.assertIs(accepts(claim, paper[:-1] + (stage_of(dim, (ONE,), [list(each[0]) for each in paper[-2]], ahead),)), True)
 
     def test_parted(self):
         seen = {}
@@ -267,6 +266,13 @@ class CertificateTest(unittest.TestCase):
                     for by in NEAR:
                         is_so = accepts(claim[:6] + (pair(number(claim[6]) + by),), paper)
                         self.assertIs(is_so, by >= 0)
+
+    def test_missed_by_one_way_of_many_steps(self):
+        alone = (HALF, 1, (((((0, ONE),), (ONE,)),),))
+        for many in (0, 1, 19, 20, 21, 60):
+            claim, paper = self.certified(certify_missed, alone, (ONE,), ("still", ((ONE,),)), many, HALF)
+            self.assertEqual(claim[6], NIL)
+            self.assertEqual(paper, ((((0, 0, 0),) * many, ONE),) if many <= 20 else ())
 
     def test_errors_of_the_function_first(self):
         with self.assertRaises(InvalidHouse):

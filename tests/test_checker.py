@@ -12,10 +12,12 @@ from deedhouses.desks import Desk
 from deedhouses.goals import greatest_coming
 from deedhouses.plans import still_of
 from deedhouses.runs import ways
+from deedhouses.stretches import vague_of
 from deedhouses.timed import timed_worths
-from tests.claims import all_claims, house_claims, run_claims, sight_claims, vague_claims
+from tests.claims import all_claims
 from tests.helpers import (
     COIN, HALF, NIL, ONE, QUARTER, SHOP, THREE, TOSSED, TURNS, TWO, bent, draw_dim, draw_row, number, pair, plain, strange_values,
+    weighted_worths,
 )
 from tests.judge import WORDS, judged
 from tests.test_texts import MARKET, TOLD
@@ -38,6 +40,16 @@ def nudged(value, by):
     for at, part in enumerate(value):
         for other in nudged(part, by):
             yield value[:at] + (other,) + value[at + 1:]
+
+
+def with_flags(value):
+    """The value with one of its numbers 0 and 1, at any depth, told as False or True."""
+    if isinstance(value, tuple):
+        for at, part in enumerate(value):
+            for other in with_flags(part):
+                yield value[:at] + (other,) + value[at + 1:]
+    elif type(value) is int and value in (0, 1):
+        yield bool(value)
 
 
 def some(source, values, many):
@@ -84,25 +96,39 @@ class BesideTest(unittest.TestCase):
                     for each in [paper, (), *some(source, papers, 25)]:
                         self.assertIs(self.asked(other, each), False)
 
-    def test_claims_bent_at_any_place(self):
-        right = 0
-        for kind in (house_claims, vague_claims, sight_claims, run_claims):
-            for seed in range(3):
-                source = random.Random(seed)
-                for claim, paper in kind(seed):
-                    for other in some(source, bent(claim), 12):
-                        right += self.asked(other, paper)
-        self.assertLess(right, 900)
+    def test_claims_and_papers_bent_at_any_place(self):
+        seen = {}
+        for word, told in self.lots().items():
+            # All bends of the smallest claims, and of some that are not small.
+            for claim, paper in told[:3] + told[len(told) // 2:][:2]:
+                for other in bent(claim):
+                    seen[word, self.asked(other, paper)] = True
+                for other in bent(paper):
+                    seen[word, self.asked(claim, other)] = True
+            source = random.Random(len(word))
+            for claim, paper in told[-2:]:
+                for other in some(source, bent(claim), 60):
+                    self.asked(other, paper)
+                for other in some(source, bent(paper), 60):
+                    self.asked(claim, other)
+        for word in WORDS:
+            self.assertIn((word, False), seen)
 
-    def test_papers_bent_at_any_place(self):
-        right = 0
-        for kind in (house_claims, vague_claims, sight_claims, run_claims):
-            for seed in range(3):
-                source = random.Random(seed)
-                for claim, paper in kind(seed):
-                    for other in some(source, bent(paper), 15):
-                        right += self.asked(claim, other)
-        self.assertLess(right, 900)
+    def lots(self):
+        """For each word the claims of some seeds with their papers, the smallest ones first."""
+        told = {}
+        for seed in range(24):
+            for claim, paper in all_claims(seed):
+                told.setdefault(claim[0], []).append((claim, paper))
+        return {word: sorted(lot, key=lambda each: len(repr(each))) for word, lot in told.items()}
+
+    def test_true_and_false_are_no_numbers(self):
+        for word, told in self.lots().items():
+            for claim, paper in told[:4] + told[len(told) // 2:][:3]:
+                for other in with_flags(claim[1:]):
+                    self.assertIs(accepts((word, *other), paper), False, (word, other))
+                for other in with_flags(paper):
+                    self.assertIs(accepts(claim, other), False, (word, other))
 
     def test_numbers_just_beside(self):
         for by in (Fraction(1, 10 ** 9), -Fraction(1, 10 ** 9)):
@@ -222,6 +248,9 @@ class WordTest(unittest.TestCase):
         self.told(False, claim, (paper[0], (HALF, ONE), ((4, 1),)))
         self.told(False, ("most", COIN, (ONE,), (None, ONE), 1, THREE), paper)
         self.told(False, ("most", COIN, (ONE,), (None, ONE), False, THREE), paper)
+        one = (HALF, 1, (((((0, ONE),), (ONE,)),),))
+        for pay, is_so in ((0, True), (-1, False), (1, False), (False, False), (None, False)):
+            self.told(is_so, ("most", one, (ONE,), (None,), pay, TWO), (((ONE,),), (ONE,), (TWO,)))
         # Any doubled number: two deeds that do the same.
         house = (HALF, 1, (((((0, ONE),), (TWO,)), (((0, ONE),), (TWO,))),))
         self.told(True, ("most", house, (ONE,), (None,), 0, (4, 1)), (((HALF, HALF),), (ONE,), ((4, 1),)))
@@ -234,6 +263,8 @@ class WordTest(unittest.TestCase):
         one = (HALF, 1, (((((0, ONE),), (ONE,)),),))
         self.told(False, ("in", one, (ONE,), (TWO,)), ((ONE,),))
         self.told(False, ("in", one, (ONE,), (TWO, TWO)), ((ONE,),))
+        self.told(False, ("out", one, (ONE,), (THREE, THREE)), ((ONE, ONE), (TWO,)))
+        self.told(False, ("out", one, (ONE,), (THREE,)), ((ONE,), (TWO,)))
 
     def test_goals(self):
         maze = (HALF, 1, (
@@ -263,6 +294,15 @@ class WordTest(unittest.TestCase):
         self.told(False, ("always comes", maze, (1,), 0, QUARTER), ((QUARTER, ONE, NIL), (1, 0, 0)))
         self.told(True, ("comes less", maze, (1,), 0, HALF), (1, 0, 0))
         self.told(False, ("comes less", maze, (1,), 0, HALF), (0, 0, 0))
+        # Two steps from the goal: a rank above that of a stand that is no goal.
+        chain = (HALF, 1, (((((1, ONE),), (NIL,)),), ((((0, HALF), (2, HALF)), (NIL,)),), ((((2, ONE),), (NIL,)),)))
+        for ranks, is_so in (((2, 1, 0), True), ((1, 1, 0), False), ((1, 2, 0), False), ((5, 3, 9), True), ((0, 1, 0), False)):
+            self.told(is_so, ("always comes", chain, (2,), 0, ONE), ((ONE, ONE, ONE), ranks))
+        for stand in (-1, 3, True, None, "0"):
+            self.told(False, ("comes", maze, (1,), stand, (-9, 1)), (0, 0, 0))
+            self.told(False, ("comes less", maze, (1,), stand, (9, 1)), (0, 0, 0))
+            self.told(False, ("comes not", maze, (1,), stand, (9, 1)), row)
+            self.told(False, ("always comes", tries, (1,), stand, (-9, 1)), ((ONE, ONE), (1, 0)))
         for goals in ((), (3,), (1, 1), [1], (True,)):
             self.told(False, ("comes", maze, goals, 0, HALF), (0, 0, 0))
         self.told(False, ("comes", maze, (1,), 3, NIL), (0, 0, 0))
@@ -289,14 +329,78 @@ class WordTest(unittest.TestCase):
         self.told(False, ("surely better", better, (ONE,), (0, 0), 0, 1), worths[::-1])
         self.told(False, ("surely better", better, (ONE,), (0, 0), 0, 0), worths)
 
+    def test_numbers_of_steps(self):
+        alone = (HALF, 1, (((((0, ONE),), (ONE,)),),))
+        dim = (alone, (0,))
+        tree = ()
+        for many in range(-1, 7):
+            brought = pair(2 - Fraction(2) / 2 ** many) if many >= 0 else NIL
+            self.told(0 <= many <= 4, ("sight best", dim, (ONE,), (ONE,), many, brought), ())
+            self.told(0 <= many <= 4, ("sight kept", dim, (ONE,), (NIL,), many), ((ONE, (tree,)),))
+            self.told(0 <= many <= 4, ("sight not kept", dim, (ONE,), (THREE,), many), (ONE,))
+            stages = tuple(((((pair(2 - Fraction(2) / 2 ** (at + 1)),),), ((ONE,),), ((ONE,),)),) for at in range(many))
+            self.told(0 <= many <= 4, ("rows left", dim, (ONE,), many, (((brought,),),)), stages)
+            if many >= 0:
+                tree = (0, (tree,))
+        for many in (-1, 0, 1, 30, 31, 60):
+            brought = pair(2 - Fraction(2) / 2 ** many) if many >= 0 else NIL
+            self.told(0 <= many <= 30, ("timed", alone, (ONE,), many, (brought,)), ())
+        for many in (-1, 0, 1, 60, 61):
+            self.told(0 <= many <= 60, ("missed", alone, (ONE,), ("still", ((ONE,),)), many, HALF, NIL), ())
+
+    def test_stands_that_are_none(self):
+        vague = vague_of(SHOP)
+        for stand, is_so in ((0, True), (1, True), (-1, False), (2, False), (True, False), (None, False), ((0,), False)):
+            told = ("once below", vague, (ONE, NIL), plain(SHOP, (0, 0)), stand, (9, 1))
+            self.told(is_so, told, (SHOP, ((16, 5), (8, 5))))
+
+    def test_a_deed_that_is_done_already_is_no_change(self):
+        vague = vague_of(SHOP)
+        for choice in ((0, 0), (1, 0)):
+            worths = tuple(pair(each) for each in weighted_worths(SHOP, (ONE, NIL), plain(SHOP, choice)))
+            for deed in (0, 1):
+                told = ("surely better", vague, (ONE, NIL), choice, 0, deed)
+                self.told(deed != choice[0] and choice == (1, 0), told, (worths,))
+                self.told(False, told, (worths, worths))
+                self.told(False, told, worths)
+                told = ("once worse", vague, (ONE, NIL), choice, 0, deed)
+                self.told(deed != choice[0] and choice == (0, 0), told, (SHOP, worths))
+
+    def test_a_pay_that_is_none(self):
+        vague = vague_of(SHOP)
+        nothing = (NIL, NIL)
+        low = tuple(pair(each) for each in weighted_worths(SHOP, (NIL, ONE), plain(SHOP, (0, 0))))
+        for pay, worths, is_so in ((1, low, True), (-1, nothing, False), (-1, low, False), (2, nothing, False), (0, low, False), (True, low, False)):
+            told = ("keeps not surely", vague, (ONE, NIL), (None, ONE), plain(SHOP, (0, 0)))
+            self.told(is_so, told, (pay, SHOP, worths))
+
     def test_rows_left(self):
+        for seed in range(12):
+            dim = draw_dim(seed, 4, 2, 2, 1)
+            claim, paper = certify_rows_left(dim, (ONE,), 2)
+            self.told(True, claim, paper)
+            for at, stage in enumerate(paper):
+                for mark, (rows, chances, odds) in enumerate(stage):
+                    # Chances from which another row is above are none for this one.
+                    for one in range(len(rows)):
+                        for two in range(len(rows)):
+                            other = chances[:one] + (chances[two],) + chances[one + 1:]
+                            part = stage[:mark] + ((rows, other, odds),) + stage[mark + 1:]
+                            self.told(one == two, claim, paper[:at] + (part,) + paper[at + 1:])
         dim = draw_dim(5, 4, 2, 2, 1)
         claim, paper = certify_rows_left(dim, (ONE,), 2)
-        self.told(True, claim, paper)
         self.told(False, claim, paper[:1])
         self.told(False, claim, paper + paper[1:])
         self.told(False, (*claim[:3], 1, claim[4]), paper)
         self.told(False, (*claim[:4], claim[4][::-1]), paper)
+        # All told the other way round: the rows are not ascending then.
+        for seed in range(12):
+            other = draw_dim(seed, 4, 2, 2, 1)
+            told, shown = certify_rows_left(other, (ONE,), 1)
+            turned = tuple((rows[::-1], chances[::-1], tuple(each[::-1] for each in odds)) for rows, chances, odds in shown[0])
+            is_same = all(len(rows) == 1 for rows, _, _ in turned)
+            self.told(is_same, (*told[:4], tuple(rows for rows, _, _ in turned)), (turned,))
+            self.told(is_same, told, (turned,))
         zero, none = certify_rows_left(dim, (ONE,), 0)
         self.told(True, zero, none)
         self.assertEqual(none, ())
@@ -337,6 +441,13 @@ class WordTest(unittest.TestCase):
         self.told(False, (*claim[:5], ((3, 2), ONE)), pairs)
         self.told(False, (*claim[:4], 2, claim[5]), pairs)
         self.told(True, (*claim[:4], 0, (NIL, NIL)), (((), ONE),))
+        for many, is_so in ((1, True), (True, False), (0, False), (2, False), (None, False), ((1, 1), False)):
+            self.told(is_so, ("ways", SHOP, start, player, many, ((3, 2), HALF)), pairs)
+        alone = (HALF, 1, (((((0, ONE),), (ONE,)),),))
+        for many, is_so in ((20, True), (21, False), (60, False)):
+            way = ((0, 0, 0),) * many
+            told = ("ways", alone, (ONE,), ("still", ((ONE,),)), many, (pair(2 - Fraction(2, 2 ** many)),))
+            self.told(is_so, told, ((way, ONE),))
         # More ways than are told by the package are a paper, too.
         house = (HALF, 1, (((((0, ONE),), (ONE,)), (((0, ONE),), (NIL,))),))
         many = []
@@ -358,6 +469,14 @@ class WordTest(unittest.TestCase):
         self.told(False, claim + ((1, 17),), pairs)
         self.told(False, claim + ((1, 16),), pairs[1:])
         self.told(False, claim + ((1, 17),), ())
+        alone = (HALF, 1, (((((0, ONE),), (ONE,)),),))
+        for many in (1, 20, 21, 60):
+            told = ("missed", alone, (ONE,), ("still", ((ONE,),)), many, HALF, NIL)
+            self.told(many <= 20, told, ((((0, 0, 0),) * many, ONE),))
+            self.told(True, told, ())
+        self.told(False, ("missed", alone, (ONE,), ("still", ((ONE,),)), True, HALF, NIL), ((((0, 0, 0),), ONE),))
+        for allowance in (NIL, (-1, 2), (2, 4), None, 1):
+            self.told(False, ("missed", alone, (ONE,), ("still", ((ONE,),)), 1, allowance, ONE), ((((0, 0, 0),), ONE),))
         self.told(False, ("missed", SHOP, start, player, 61, (3, 4), (100, 1)), ())
         self.told(True, ("missed", SHOP, start, player, 60, (3, 4), (100, 1)), ())
         self.told(False, ("missed", SHOP, start, player, 2, NIL, (100, 1)), ())

@@ -73,9 +73,11 @@ class KindTest(unittest.TestCase):
             ((0, 1, 0, 1, 0, 1, 0, 1, 0, 1, 0), False), (0, False), ([0], False), ((0, 0, True), False), ((0, -1, 0), False),
             ((0, 0, 0, 0, 0, 0, 0, 0, 1), True), ((0, 0, 0, 0, 0, 0, 0, 1, 1), False), (((0,),), False), (("0",), False),
         ):
-            odds = (ONE,) if is_one and memory[-1] == 1 else (HALF, HALF)
-            self.assertIs(is_told(SHOP, (((memory, odds),), WORKS)), is_one, memory)
-            self.assertIs(is_player(SHOP, ("told", (((memory, odds),), WORKS))), is_one, memory)
+            told = []
+            for odds in ((ONE,), (HALF, HALF)):
+                told.append(is_told(SHOP, (((memory, odds),), WORKS)))
+                self.assertIs(is_player(SHOP, ("told", (((memory, odds),), WORKS))), told[-1], memory)
+            self.assertEqual(told, [is_one and memory[-1] == 1, is_one and memory[-1] == 0], memory)
 
     def test_order_and_number_of_memories(self):
         odds = (HALF, HALF)

@@ -228,6 +228,13 @@ class WayTest(unittest.TestCase):
         all_four = (HALF, HALF, NIL, NIL, NIL), ("told", ((((0,), (QUARTER,) * 4), ((1,), (QUARTER,) * 4)), exact[1]))
         self.assertEqual(count_ways(five, *all_four, 2), 400)
         self.assertEqual(len(ways(five, *all_four, 2)), 400)
+        # One stand more, from which one way goes on, makes 401.
+        six = (HALF, 1, five[2] + (((((5, ONE),), (NIL,)),),))
+        begun, more = (QUARTER, QUARTER, NIL, NIL, NIL, HALF), ("told", (all_four[1][1][0], exact[1] + ((ONE,),)))
+        self.assertEqual(count_ways(six, begun, more, 2), 401)
+        with self.assertRaises(TooMany) as caught:
+            ways(six, begun, more, 2)
+        self.assertEqual(caught.exception.given, 401)
 
     def test_how_many_steps(self):
         start = (ONE, NIL)
