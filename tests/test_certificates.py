@@ -241,7 +241,7 @@ class CertificateTest(unittest.TestCase):
         self.assertEqual(len(seen), 2)
 
     def test_ways_missed_and_same(self):
-        for seed in range(30):
+        for seed in range(15):
             house = draw_house(seed, 1 + seed % 3, 2)
             start, player = draw_start(seed, house), draw_player(seed, house)
             claim, paper = self.certified(certify_same, house, start, player)

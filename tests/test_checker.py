@@ -68,13 +68,13 @@ class BesideTest(unittest.TestCase):
 
     def test_claims_that_are_so_with_their_papers(self):
         seen = {}
-        for seed in range(24):
+        for seed in range(16):
             for claim, paper in all_claims(seed):
                 self.assertIs(self.asked(claim, paper), True)
                 seen[claim[0]] = seen.get(claim[0], 0) + 1
                 self.assertEqual(accepts(claim=claim, paper=paper), True)
         self.assertEqual(set(seen), set(WORDS))
-        self.assertGreater(min(seen.values()), 8, seen)
+        self.assertGreater(min(seen.values()), 4, seen)
 
     def test_no_paper_and_papers_of_other_claims(self):
         for seed in range(4):
@@ -100,16 +100,16 @@ class BesideTest(unittest.TestCase):
         seen = {}
         for word, told in self.lots().items():
             # All bends of the smallest claims, and of some that are not small.
-            for claim, paper in told[:3] + told[len(told) // 2:][:2]:
+            for claim, paper in told[:2] + told[len(told) // 3:][:1]:
                 for other in bent(claim):
                     seen[word, self.asked(other, paper)] = True
                 for other in bent(paper):
                     seen[word, self.asked(claim, other)] = True
             source = random.Random(len(word))
             for claim, paper in told[-2:]:
-                for other in some(source, bent(claim), 60):
+                for other in some(source, bent(claim), 50):
                     self.asked(other, paper)
-                for other in some(source, bent(paper), 60):
+                for other in some(source, bent(paper), 50):
                     self.asked(claim, other)
         for word in WORDS:
             self.assertIn((word, False), seen)
@@ -251,6 +251,16 @@ class WordTest(unittest.TestCase):
         one = (HALF, 1, (((((0, ONE),), (ONE,)),),))
         for pay, is_so in ((0, True), (-1, False), (1, False), (False, False), (None, False)):
             self.told(is_so, ("most", one, (ONE,), (None,), pay, TWO), (((ONE,),), (ONE,), (TWO,)))
+        # Three pays: each weight but PAY's own stands beside its own bound.
+        three = (HALF, 3, (((((0, ONE),), (ONE, ONE, ONE)),),))
+        for pay, bounds, weights, worth, is_so in (
+            (0, (None, None, TWO), (ONE, NIL, NIL), TWO, True), (0, (None, None, TWO), (ONE, NIL, ONE), (4, 1), True),
+            (0, (None, TWO, None), (ONE, NIL, ONE), (4, 1), False), (0, (None, TWO, None), (ONE, ONE, NIL), (4, 1), True),
+            (2, (TWO, None, None), (ONE, NIL, ONE), (4, 1), True), (2, (TWO, None, None), (NIL, ONE, ONE), (4, 1), False),
+            (1, (TWO, None, ONE), (NIL, ONE, ONE), (4, 1), False), (1, (TWO, None, TWO), (HALF, ONE, HALF), (4, 1), True),
+            (1, (None, TWO, None), (NIL, TWO, NIL), (4, 1), True), (1, (None, TWO, None), (NIL, HALF, NIL), ONE, False),
+        ):
+            self.told(is_so, ("most", three, (ONE,), bounds, pay, TWO), (((ONE,),), weights, (worth,)))
         # Any doubled number: two deeds that do the same.
         house = (HALF, 1, (((((0, ONE),), (TWO,)), (((0, ONE),), (TWO,))),))
         self.told(True, ("most", house, (ONE,), (None,), 0, (4, 1)), (((HALF, HALF),), (ONE,), ((4, 1),)))
